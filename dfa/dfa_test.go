@@ -101,6 +101,9 @@ func made(t *testing.T, what string, l []api.Posits) api.DFA {
 	if e != api.OK || len(d.Next) == 0 || len(d.Accept) != len(d.Next) {
 		t.Fatalf("%s: %d states, %d Accepts, %v", what, len(d.Next), len(d.Accept), e)
 	}
+	if e := dfa.Fits(l); e != api.OK {
+		t.Fatalf("%s: Fits: %v", what, e)
+	}
 	for i, row := range d.Next {
 		if len(row) != 256 {
 			t.Fatalf("%s: Next %d has %d numbers", what, i, len(row))
@@ -132,6 +135,9 @@ func refuses(t *testing.T, what string, l ...api.Posits) {
 	t.Helper()
 	if d, e := dfa.Of(l); e != api.ErrLong || d.Next != nil || d.Accept != nil {
 		t.Errorf("%s: %d states, %d Accepts, %v", what, len(d.Next), len(d.Accept), e)
+	}
+	if e := dfa.Fits(l); e != api.ErrLong {
+		t.Errorf("%s: Fits: %v", what, e)
 	}
 }
 
