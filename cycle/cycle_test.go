@@ -1,40 +1,14 @@
 package cycle_test
 
 import (
-	"math"
 	"slices"
 	"testing"
 
 	"undergrowth/api"
 	"undergrowth/cycle"
 	"undergrowth/grammar"
+	"undergrowth/sample"
 )
-
-// gram is a grammar of rules written as texts: the name, and what it comes to; capitals are names from A on, other letters kinds from a on.
-func gram(names, kinds int, rules ...string) api.Grammar {
-	g := api.Grammar{Names: names, Kinds: kinds}
-	for _, s := range rules {
-		l := symbols(s)
-		g.Rules = append(g.Rules, api.Rule{Left: l[0], Right: l[1:]})
-	}
-	return g
-}
-
-// symbols is a row of symbols, written as in gram.
-func symbols(s string) []int {
-	l := make([]int, len(s))
-	for i, c := range []byte(s) {
-		if l[i] = int(c) - 'A'; c >= 'a' {
-			l[i] = -1 - (int(c) - 'a')
-		}
-	}
-	return l
-}
-
-// sums is a list of sums: of the names list, sum, term and sign, and of the kinds + * ( ) x ; and one of no use.
-func sums() api.Grammar {
-	return gram(4, 7, "A", "AABf", "BBaC", "BC", "CCbC", "CDcBd", "Ce", "D", "Da")
-}
 
 // tells looks at what both calls tell: the names that run in circles, and what Check finds.
 func tells(t *testing.T, what string, g api.Grammar, circles []bool, at int, e api.Errno) {
@@ -56,26 +30,17 @@ func only(n int, places ...int) []bool {
 	return l
 }
 
-// upTo is the numbers from 0 to n - 1.
-func upTo(n int) []int {
-	l := make([]int, n)
-	for i := range l {
-		l[i] = i
-	}
-	return l
-}
-
 // P1301: grammars as they are.
 func TestGrammars(t *testing.T) {
 	tells(t, "example", api.Grammar{Names: 1}, only(1), 0, api.ErrUseless)
-	tells(t, "nothing", gram(1, 0, "A"), only(1), -1, api.OK)
-	tells(t, "a kind", gram(1, 1, "Aa"), only(1), -1, api.OK)
-	tells(t, "sums", sums(), only(4), -1, api.OK)
-	tells(t, "brackets", gram(1, 2, "AaAbA", "A"), only(1), -1, api.OK)
-	tells(t, "a list of lists", gram(2, 1, "A", "AAB", "B", "Ba"), only(2, 0), 0, api.ErrCycle)
-	tells(t, "if else", gram(3, 4, "AaACB", "AbC", "B", "BbA", "Cc"), only(3), -1, api.OK)
-	tells(t, "a sum is a term is a sum", gram(2, 2, "ABaA", "AB", "Bb", "BA"), only(2, 0, 1), 0, api.ErrCycle)
-	tells(t, "many ways, no circle", gram(1, 1, "AAA", "AAAA", "Aa"), only(1), -1, api.OK)
+	tells(t, "nothing", sample.Grammar(1, 0, "A"), only(1), -1, api.OK)
+	tells(t, "a kind", sample.Grammar(1, 1, "Aa"), only(1), -1, api.OK)
+	tells(t, "sums", sample.Sums(), only(4), -1, api.OK)
+	tells(t, "brackets", sample.Grammar(1, 2, "AaAbA", "A"), only(1), -1, api.OK)
+	tells(t, "a list of lists", sample.Grammar(2, 1, "A", "AAB", "B", "Ba"), only(2, 0), 0, api.ErrCycle)
+	tells(t, "if else", sample.Grammar(3, 4, "AaACB", "AbC", "B", "BbA", "Cc"), only(3), -1, api.OK)
+	tells(t, "a sum is a term is a sum", sample.Grammar(2, 2, "ABaA", "AB", "Bb", "BA"), only(2, 0, 1), 0, api.ErrCycle)
+	tells(t, "many ways, no circle", sample.Grammar(1, 1, "AAA", "AAAA", "Aa"), only(1), -1, api.OK)
 }
 
 // P1301: it derives itself alone where all beside it in a rule derives nothing, on both sides of it; not where one of them derives something always.
@@ -92,7 +57,7 @@ func TestBeside(t *testing.T) {
 		{"AL", false}, {"LA", false}, {"NLA", false}, {"ALM", false},
 	} {
 		// M and N derive nothing (N something, too), S something always, L comes to no end.
-		g := gram(19, 2, "A"+x.right, "Aa", "M", "NM", "Nb", "Sb", "SNS", "LLb", "LL")
+		g := sample.Grammar(19, 2, "A"+x.right, "Aa", "M", "NM", "Nb", "Sb", "SNS", "LLb", "LL")
 		want := only(19, 'S'-'A', 'L'-'A')
 		want[0] = x.circles
 		if got := cycle.Cyclic(g); !slices.Equal(got, want) {
@@ -148,7 +113,7 @@ func TestWays(t *testing.T) {
 		{4, []string{"ABCD", "BCD", "C", "DC"}, nil},
 		{4, []string{"ABCD", "BCD", "C", "DC", "DA"}, []int{0, 1, 3}},
 	} {
-		g := gram(x.names, 2, x.rules...)
+		g := sample.Grammar(x.names, 2, x.rules...)
 		for range x.rules {
 			for g.Start = range x.names {
 				if got, want := cycle.Cyclic(g), only(x.names, x.circles...); !slices.Equal(got, want) {
@@ -162,10 +127,10 @@ func TestWays(t *testing.T) {
 
 // P1301: circles are told of names that are of no use, too.
 func TestUselessCircles(t *testing.T) {
-	tells(t, "no end", gram(1, 0, "AA"), only(1, 0), 0, api.ErrUseless)
-	tells(t, "not reached", gram(2, 1, "Aa", "BB", "Ba"), only(2, 1), 1, api.ErrUseless)
-	tells(t, "no end behind it", gram(2, 1, "Aa", "AB", "BB"), only(2, 1), 1, api.ErrUseless)
-	tells(t, "no rules", gram(3, 1, "AB", "BA", "AC"), only(3, 0, 1), 0, api.ErrUseless)
+	tells(t, "no end", sample.Grammar(1, 0, "AA"), only(1, 0), 0, api.ErrUseless)
+	tells(t, "not reached", sample.Grammar(2, 1, "Aa", "BB", "Ba"), only(2, 1), 1, api.ErrUseless)
+	tells(t, "no end behind it", sample.Grammar(2, 1, "Aa", "AB", "BB"), only(2, 1), 1, api.ErrUseless)
+	tells(t, "no rules", sample.Grammar(3, 1, "AB", "BA", "AC"), only(3, 0, 1), 0, api.ErrUseless)
 }
 
 // P1301: the first name that is of no use, whichever way; ahead of all circles, and the first of these.
@@ -196,7 +161,7 @@ func TestFirstName(t *testing.T) {
 		{3, []string{"CCC", "CAB", "C", "Bb", "Ab"}, 2, 2, api.ErrCycle},
 		{3, []string{"CCC", "CAB", "Ca", "Bb", "BA", "AB"}, 2, 0, api.ErrCycle},
 	} {
-		g := gram(x.names, 2, x.rules...)
+		g := sample.Grammar(x.names, 2, x.rules...)
 		g.Start = x.start
 		for range 2 {
 			if at, e := cycle.Check(g); at != x.at || e != x.e {
@@ -214,7 +179,7 @@ func TestGreatest(t *testing.T) {
 		g.Rules = append(g.Rules, api.Rule{Left: i, Right: []int{(i + 1) % 40}})
 	}
 	g.Rules = append(g.Rules, api.Rule{Left: 17, Right: []int{-40}})
-	all := only(40, upTo(40)...)
+	all := only(40, sample.UpTo(40)...)
 	for range 2 {
 		for g.Start = range 40 {
 			tells(t, "one circle of all", g, all, 0, api.ErrCycle)
@@ -252,69 +217,16 @@ func TestLongVanishing(t *testing.T) {
 	}
 }
 
-// fault is a grammar that is none, and what is told of it.
-type fault struct {
-	g  api.Grammar
-	at int
-	e  api.Errno
-}
-
-// notForm is grammars that are none, by all that grammar.Form looks at.
-func notForm() []fault {
-	var l []fault
-	for _, x := range []struct {
-		f  func(g *api.Grammar)
-		at int
-		e  api.Errno
-	}{
-		{func(g *api.Grammar) { g.Names = 0 }, -1, api.ErrLong},
-		{func(g *api.Grammar) { g.Names = -1 }, -1, api.ErrLong},
-		{func(g *api.Grammar) { g.Names = math.MinInt }, -1, api.ErrLong},
-		{func(g *api.Grammar) { g.Names = 41 }, -1, api.ErrLong},
-		{func(g *api.Grammar) { g.Names = math.MaxInt }, -1, api.ErrLong},
-		{func(g *api.Grammar) { g.Kinds = -1 }, -1, api.ErrLong},
-		{func(g *api.Grammar) { g.Kinds = 41 }, -1, api.ErrLong},
-		{func(g *api.Grammar) { g.Kinds = math.MaxInt }, -1, api.ErrLong},
-		{func(g *api.Grammar) { g.Rules = append(g.Rules, make([]api.Rule, 60)...) }, -1, api.ErrLong},
-		{func(g *api.Grammar) { g.Forbid = slices.Repeat([][3]int{{1, 1, 2}}, 201) }, -1, api.ErrLong},
-		{func(g *api.Grammar) { g.Start = -1 }, -1, api.ErrName},
-		{func(g *api.Grammar) { g.Start = 4 }, -1, api.ErrName},
-		{func(g *api.Grammar) { g.Start = math.MinInt }, -1, api.ErrName},
-		{func(g *api.Grammar) { g.RuleClass = make([]int, 10) }, -1, api.ErrArg},
-		{func(g *api.Grammar) { g.RuleClass = []int{101} }, -1, api.ErrArg},
-		{func(g *api.Grammar) { g.KindClass = make([]int, 8) }, -1, api.ErrArg},
-		{func(g *api.Grammar) { g.KindClass = []int{-1} }, -1, api.ErrArg},
-		{func(g *api.Grammar) { g.Rules[8].Left = 4 }, 8, api.ErrName},
-		{func(g *api.Grammar) { g.Rules[0].Left = -1 }, 0, api.ErrName},
-		{func(g *api.Grammar) { g.Rules[8].Right[0] = 4 }, 8, api.ErrName},
-		{func(g *api.Grammar) { g.Rules[8].Right[0] = math.MaxInt }, 8, api.ErrName},
-		{func(g *api.Grammar) { g.Rules[5].Right[3] = -8 }, 5, api.ErrName},
-		{func(g *api.Grammar) { g.Rules[5].Right[3] = math.MinInt }, 5, api.ErrName},
-		{func(g *api.Grammar) { g.Rules[0].Right = make([]int, 9) }, 0, api.ErrLong},
-		{func(g *api.Grammar) { g.Rules[3].Dyn = 1001 }, 3, api.ErrArg},
-		{func(g *api.Grammar) { g.Rules[3].Dyn = math.MinInt }, 3, api.ErrArg},
-		{func(g *api.Grammar) { g.Forbid = [][3]int{{1, 1, 0}} }, -1, api.ErrName},
-	} {
-		g := sums()
-		x.f(&g)
-		l = append(l, fault{g, x.at, x.e})
-	}
-	return append(l, fault{api.Grammar{}, -1, api.ErrLong}, fault{api.Grammar{Kinds: 1}, -1, api.ErrLong})
-}
-
 // P1301: of what is no grammar Check tells Form's error and its place, Cyclic nothing.
 func TestNotForm(t *testing.T) {
-	for _, x := range notForm() {
-		if at, e := grammar.Form(x.g); at != x.at || e != x.e {
-			t.Fatalf("Form: %d, %d; want %d, %d", at, e, x.at, x.e)
-		}
-		tells(t, "no grammar", x.g, nil, x.at, x.e)
+	for _, x := range sample.NotForm() {
+		tells(t, "no grammar", x.Grammar, nil, x.At, x.Err)
 	}
 }
 
 // P1301: Form's error comes first, in a grammar of no use that runs in circles, too.
 func TestFormFirst(t *testing.T) {
-	g := gram(3, 1, "BB", "AA", "BC")
+	g := sample.Grammar(3, 1, "BB", "AA", "BC")
 	tells(t, "of no use", g, only(3, 0, 1), 0, api.ErrUseless)
 	g.Rules[2].Dyn = -1001
 	tells(t, "too light", g, nil, 2, api.ErrArg)
@@ -328,10 +240,10 @@ func TestFormFirst(t *testing.T) {
 
 // P1301: how the rules weigh, what is forbidden and which classes there are turns nothing; nor do rules that stand twice, or from the end.
 func TestOnlyRulesCount(t *testing.T) {
-	g := gram(3, 2, "AaB", "BC", "CB", "Cb", "C", "AA")
+	g := sample.Grammar(3, 2, "AaB", "BC", "CB", "Cb", "C", "AA")
 	circles := only(3, 0, 1, 2)
 	g.Forbid = [][3]int{{1, 0, 2}, {2, 0, 1}, {5, 0, 5}, {5, 0, 0}}
-	g.RuleClass, g.KindClass = upTo(6), upTo(2)
+	g.RuleClass, g.KindClass = sample.UpTo(6), sample.UpTo(2)
 	for i := range g.Rules {
 		g.Rules[i].Dyn = 1000 - 400*i
 	}

@@ -9,6 +9,7 @@ import (
 	"undergrowth/api"
 	"undergrowth/cycle"
 	"undergrowth/reach"
+	"undergrowth/sample"
 )
 
 // steps is all rows of at most so many symbols that come of l in one step.
@@ -63,42 +64,10 @@ func finds(g api.Grammar, circles []bool) (int, api.Errno) {
 	return at, e
 }
 
-// allRows is all rows of at most so many symbols of a grammar.
-func allRows(names, kinds, most int) [][]int {
-	all, last := [][]int{nil}, [][]int{nil}
-	for range most {
-		var longer [][]int
-		for _, l := range last {
-			for s := -kinds; s < names; s++ {
-				longer = append(longer, append(slices.Clone(l), s))
-			}
-		}
-		all, last = append(all, longer...), longer
-	}
-	return all
-}
-
-// each calls do with every grammar of at most so many of the rules.
-func each(g api.Grammar, rules []api.Rule, most int, do func(g api.Grammar)) {
-	do(g)
-	if most == 0 {
-		return
-	}
-	for i, r := range rules {
-		with := g
-		with.Rules = append(slices.Clone(g.Rules), r)
-		each(with, rules[i+1:], most-1, do)
-	}
-}
-
 // P1301: all grammars of two names, a kind and up to three rules of up to two symbols, held against all that they derive.
 func TestAllSmallGrammars(t *testing.T) {
-	var rules []api.Rule
-	for _, l := range allRows(2, 1, 2) {
-		rules = append(rules, api.Rule{Left: 0, Right: l}, api.Rule{Left: 1, Right: l})
-	}
 	told := map[api.Errno]int{}
-	each(api.Grammar{Names: 2, Kinds: 1}, rules, 3, func(g api.Grammar) {
+	sample.Small(func(g api.Grammar) {
 		circles := []bool{byRows(g, 0, 5), byRows(g, 1, 5)}
 		for g.Start = range 2 {
 			at, e := finds(g, circles)
@@ -112,29 +81,6 @@ func TestAllSmallGrammars(t *testing.T) {
 	if told[api.OK] < 100 || told[api.ErrUseless] < 100 || told[api.ErrCycle] < 100 {
 		t.Errorf("not of all kinds: %v", told)
 	}
-}
-
-// chance is a row of numbers that seem to have no rule.
-type chance uint64
-
-// below is the next one, from 0 to n - 1.
-func (c *chance) below(n int) int {
-	*c = *c*6364136223846793005 + 1442695040888963407
-	return int(uint64(*c)>>33) % n
-}
-
-// some is a grammar, many of whose rules are short.
-func (c *chance) some(names, kinds, rules, right int) api.Grammar {
-	g := api.Grammar{Names: 1 + c.below(names), Kinds: c.below(kinds + 1)}
-	g.Start = c.below(g.Names)
-	for range c.below(rules + 1) {
-		r := api.Rule{Left: c.below(g.Names)}
-		for range c.below(right + 1) {
-			r.Right = append(r.Right, c.below(g.Names+g.Kinds)-g.Kinds)
-		}
-		g.Rules = append(g.Rules, r)
-	}
-	return g
 }
 
 // vanishes tells whether a symbol has a tree without leaves, in which no name stands twice on any way down, nor one of path.
@@ -184,10 +130,10 @@ func byTrees(g api.Grammar) []bool {
 
 // P1301: many greater grammars, held against the trees that they have.
 func TestManyGrammars(t *testing.T) {
-	next := chance(13)
+	next := sample.Chance(13)
 	told, inCircles, out := map[api.Errno]int{}, 0, 0
 	for range 4000 {
-		g := next.some(6, 4, 14, 3)
+		g := next.Grammar(6, 4, 14, 3)
 		circles := byTrees(g)
 		at, e := finds(g, circles)
 		tells(t, "by trees", g, circles, at, e)
@@ -208,50 +154,26 @@ func TestManyGrammars(t *testing.T) {
 	}
 }
 
-// roomy is sums, each list with spare room.
-func roomy() api.Grammar {
-	g := sums()
-	for i, r := range g.Rules {
-		g.Rules[i].Right = append(slices.Clone(r.Right), 7, 8, 9)[:len(r.Right)]
-	}
-	g.Rules = append(g.Rules, api.Rule{Left: 7, Right: []int{5}}, api.Rule{Left: 8})[:9]
-	g.Forbid = [][3]int{{1, 1, 2}, {7, 7, 7}}[:1]
-	g.RuleClass, g.KindClass = []int{1, 2, 333}[:2], []int{3, 4, 555}[:2]
-	return g
-}
-
-// spread is g with the spare room of its lists.
-func spread(g api.Grammar) api.Grammar {
-	g.Rules = slices.Clone(g.Rules[:cap(g.Rules)])
-	for i, r := range g.Rules {
-		g.Rules[i].Right = r.Right[:cap(r.Right)]
-	}
-	g.Forbid = g.Forbid[:cap(g.Forbid)]
-	g.RuleClass = g.RuleClass[:cap(g.RuleClass)]
-	g.KindClass = g.KindClass[:cap(g.KindClass)]
-	return g
-}
-
 // P1302: what is handed in stays as it is, its spare room too.
 func TestHandedInStays(t *testing.T) {
-	g, was := roomy(), spread(roomy())
+	g, was := sample.Roomy(), sample.Spread(sample.Roomy())
 	tells(t, "roomy", g, only(4), -1, api.OK)
-	if now := spread(g); !reflect.DeepEqual(now, was) {
+	if now := sample.Spread(g); !reflect.DeepEqual(now, was) {
 		t.Errorf("what is handed in: %+v; was %+v", now, was)
 	}
-	for _, x := range notForm() {
-		was := x.g
-		was.Rules = slices.Clone(x.g.Rules)
-		tells(t, "no grammar", x.g, nil, x.at, x.e)
-		if !reflect.DeepEqual(x.g, was) {
-			t.Errorf("what is handed in: %+v; was %+v", x.g, was)
+	for _, x := range sample.NotForm() {
+		was := x.Grammar
+		was.Rules = slices.Clone(x.Grammar.Rules)
+		tells(t, "no grammar", x.Grammar, nil, x.At, x.Err)
+		if !reflect.DeepEqual(x.Grammar, was) {
+			t.Errorf("what is handed in: %+v; was %+v", x.Grammar, was)
 		}
 	}
 }
 
 // P1302: what is told is new memory: what is done to it turns nothing that is told of it later.
 func TestAnswersAreNew(t *testing.T) {
-	g := gram(4, 2, "AaB", "BC", "CB", "Ca", "BD", "Db")
+	g := sample.Grammar(4, 2, "AaB", "BC", "CB", "Ca", "BD", "Db")
 	for range 3 {
 		tells(t, "anew", g, only(4, 1, 2), 1, api.ErrCycle)
 		l := cycle.Cyclic(g)
@@ -263,7 +185,7 @@ func TestAnswersAreNew(t *testing.T) {
 
 // P1302: what is told hangs on the arguments alone: one grammar that is turned is gone through anew each time, and who asks beside turns nothing.
 func TestNothingIsKept(t *testing.T) {
-	g := gram(2, 2, "AaB", "Bbb", "BA")
+	g := sample.Grammar(2, 2, "AaB", "Bbb", "BA")
 	for range 3 {
 		tells(t, "as it was", g, only(2), -1, api.OK)
 		g.Rules[0].Right[0] = 1
@@ -275,11 +197,11 @@ func TestNothingIsKept(t *testing.T) {
 		tells(t, "none", g, nil, -1, api.ErrName)
 		g.Start = 0
 	}
-	next := chance(1302)
+	next := sample.Chance(1302)
 	var all []api.Grammar
 	var circles [][]bool
 	for range 20 {
-		g := next.some(6, 4, 14, 3)
+		g := next.Grammar(6, 4, 14, 3)
 		all, circles = append(all, g), append(circles, byTrees(g))
 	}
 	var group sync.WaitGroup

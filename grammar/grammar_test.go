@@ -9,6 +9,7 @@ import (
 
 	"undergrowth/api"
 	"undergrowth/grammar"
+	"undergrowth/sample"
 )
 
 // sums is a grammar of the names sum, term and list, and of the kinds + * ( ) x and one of no use.
@@ -496,7 +497,7 @@ func TestHandedInStays(t *testing.T) {
 		f.turn(&g)
 		f.turn(&was)
 		tells(t, f.what, g, f.at, f.e)
-		if !reflect.DeepEqual(spread(g), spread(was)) {
+		if !reflect.DeepEqual(sample.Spread(g), sample.Spread(was)) {
 			t.Errorf("%s: Form turns what is handed in", f.what)
 		}
 	}
@@ -512,18 +513,6 @@ func roomy() api.Grammar {
 	g.Forbid = append(g.Forbid, [3]int{7, 7, 7}, [3]int{8, 8, 8})[:3]
 	g.RuleClass = append(g.RuleClass, 7, 8, 9, 10)[:4]
 	g.KindClass = append(g.KindClass, 7, 8, 9, 10)[:5]
-	return g
-}
-
-// spread is g with the spare room of its lists.
-func spread(g api.Grammar) api.Grammar {
-	g.Rules = slices.Clone(g.Rules[:cap(g.Rules)])
-	for i, r := range g.Rules {
-		g.Rules[i].Right = r.Right[:cap(r.Right)]
-	}
-	g.Forbid = g.Forbid[:cap(g.Forbid)]
-	g.RuleClass = g.RuleClass[:cap(g.RuleClass)]
-	g.KindClass = g.KindClass[:cap(g.KindClass)]
 	return g
 }
 

@@ -7,30 +7,9 @@ import (
 
 	"undergrowth/api"
 	"undergrowth/cycle"
-	"undergrowth/grammar"
 	"undergrowth/items"
+	"undergrowth/sample"
 )
-
-// gram is a grammar of rules written as texts: the name, and what it comes to; capitals are names from A on, other letters kinds from a on.
-func gram(names, kinds int, rules ...string) api.Grammar {
-	g := api.Grammar{Names: names, Kinds: kinds}
-	for _, s := range rules {
-		l := symbols(s)
-		g.Rules = append(g.Rules, api.Rule{Left: l[0], Right: l[1:]})
-	}
-	return g
-}
-
-// symbols is a row of symbols, written as in gram.
-func symbols(s string) []int {
-	l := make([]int, len(s))
-	for i, c := range []byte(s) {
-		if l[i] = int(c) - 'A'; c >= 'a' {
-			l[i] = -1 - (int(c) - 'a')
-		}
-	}
-	return l
-}
 
 // list is a row of items: rule and place, one behind the other.
 func list(l ...int) []api.Item {
@@ -82,14 +61,9 @@ func leads(t *testing.T, what string, g api.Grammar, want []api.State, e api.Err
 	}
 }
 
-// sums is lists of sums: of the names list, sum, term and sign, and of the kinds + * ( ) x ; and one of no use.
-func sums() api.Grammar {
-	return gram(4, 7, "A", "AABf", "BBaC", "BC", "CCbC", "CDcBd", "Ce", "D", "Da")
-}
-
 // P1401: the item of rule -1 stands for a rule of Start alone: at 0 ahead of it, at 1 behind.
 func TestCloseOfStart(t *testing.T) {
-	g := gram(3, 1, "AB", "BaC", "B", "CA", "Ca")
+	g := sample.Grammar(3, 1, "AB", "BaC", "B", "CA", "Ca")
 	for start, want := range [][]api.Item{list(-1, 0, 0, 0, 1, 0, 2, 0), list(-1, 0, 1, 0, 2, 0), list(-1, 0, 0, 0, 1, 0, 2, 0, 3, 0, 4, 0)} {
 		g.Start = start
 		closes(t, "ahead of Start", g, list(-1, 0), want)
@@ -100,7 +74,7 @@ func TestCloseOfStart(t *testing.T) {
 
 // P1401: as long as there is a name behind a point, all rules of that name; of no other one.
 func TestClose(t *testing.T) {
-	g := sums()
+	g := sample.Sums()
 	terms := list(4, 0, 5, 0, 6, 0, 7, 0, 8, 0)
 	all := slices.Concat(list(2, 0, 3, 0), terms)
 	for _, x := range []struct{ l, want []api.Item }{
@@ -135,7 +109,7 @@ func TestClose(t *testing.T) {
 
 // P1401: each once, however often it is handed in or come to, and rising: by the rule, then by the place.
 func TestEachOnceRising(t *testing.T) {
-	g := gram(1, 2, "AAAAAAAAA", "AaAAAAAAA", "A", "AAb")
+	g := sample.Grammar(1, 2, "AAAAAAAAA", "AaAAAAAAA", "A", "AAb")
 	closes(t, "one, twice", g, list(2, 0, 2, 0), list(2, 0))
 	closes(t, "one, come to by itself", g, list(0, 0), upTo(0, 3))
 	var l, want []api.Item
@@ -154,7 +128,7 @@ func TestEachOnceRising(t *testing.T) {
 
 // P1401: only what stands right behind the point counts: a name that derives nothing hides what is behind it.
 func TestOnlyRightBehind(t *testing.T) {
-	g := gram(4, 1, "ABCD", "B", "C", "Da")
+	g := sample.Grammar(4, 1, "ABCD", "B", "C", "Da")
 	closes(t, "ahead of all", g, list(0, 0), list(0, 0, 1, 0))
 	closes(t, "behind one", g, list(0, 1), list(0, 1, 2, 0))
 	closes(t, "behind two", g, list(0, 2), list(0, 2, 3, 0))
@@ -167,7 +141,7 @@ func TestOnlyRightBehind(t *testing.T) {
 
 // P1401: such as are none are left out, whatever numbers they have.
 func TestNoItems(t *testing.T) {
-	g := gram(2, 1, "AB", "A", "Baaaaaaaa")
+	g := sample.Grammar(2, 1, "AB", "A", "Baaaaaaaa")
 	for _, rule := range []int{math.MinInt, math.MinInt + 1, -1 << 32, -61, -3, -2, -1, 0, 1, 2, 3, 4, 59, 60, 61, 1 << 32, math.MaxInt - 1, math.MaxInt} {
 		for _, at := range []int{math.MinInt, math.MinInt + 1, -1 << 32, -9, -2, -1, 0, 1, 2, 3, 7, 8, 9, 10, 1 << 32, 1<<32 + 1, math.MaxInt - 1, math.MaxInt} {
 			want := list(rule, at)
@@ -185,15 +159,15 @@ func TestNoItems(t *testing.T) {
 			}
 		}
 	}
-	closes(t, "without rules", gram(1, 1), list(-1, 0, 0, 0, -1, 1), list(-1, 0, -1, 1))
+	closes(t, "without rules", sample.Grammar(1, 1), list(-1, 0, 0, 0, -1, 1), list(-1, 0, -1, 1))
 }
 
 // P1401: Close is told of any grammar.Form: of names without rules, of no use, that come to no end, or run in circles, too.
 func TestCloseOfAnyForm(t *testing.T) {
-	closes(t, "a name without rules", gram(2, 1, "AB", "Aa"), list(-1, 0), list(-1, 0, 0, 0, 1, 0))
-	closes(t, "what Start does not come to", gram(3, 1, "Aa", "BC", "Ca"), list(1, 0), list(1, 0, 2, 0))
-	closes(t, "no end", gram(2, 0, "AB", "BA"), list(0, 0), list(0, 0, 1, 0))
-	closes(t, "a circle", gram(2, 1, "AA", "AB", "BA", "Ba"), list(-1, 0), append(list(-1, 0), upTo(0, 3)...))
+	closes(t, "a name without rules", sample.Grammar(2, 1, "AB", "Aa"), list(-1, 0), list(-1, 0, 0, 0, 1, 0))
+	closes(t, "what Start does not come to", sample.Grammar(3, 1, "Aa", "BC", "Ca"), list(1, 0), list(1, 0, 2, 0))
+	closes(t, "no end", sample.Grammar(2, 0, "AB", "BA"), list(0, 0), list(0, 0, 1, 0))
+	closes(t, "a circle", sample.Grammar(2, 1, "AA", "AB", "BA", "Ba"), list(-1, 0), append(list(-1, 0), upTo(0, 3)...))
 }
 
 // P1401: the greatest grammar there is: all its items, and the last symbols.
@@ -215,18 +189,18 @@ func TestStates(t *testing.T) {
 		g    api.Grammar
 		want []api.State
 	}{
-		{"nothing", gram(1, 0, "A"), []api.State{state(list(-1, 0), 0, 1), state(list(-1, 1))}},
-		{"a kind", gram(1, 1, "Aa"), []api.State{state(list(-1, 0), -1, 1, 0, 2), state(list(0, 1)), state(list(-1, 1))}},
-		{"one, twice", gram(1, 1, "Aa", "Aa"), []api.State{state(list(-1, 0), -1, 1, 0, 2), state(list(0, 1, 1, 1)), state(list(-1, 1))}},
-		{"brackets", gram(1, 2, "AaAbA", "A"), []api.State{
+		{"nothing", sample.Grammar(1, 0, "A"), []api.State{state(list(-1, 0), 0, 1), state(list(-1, 1))}},
+		{"a kind", sample.Grammar(1, 1, "Aa"), []api.State{state(list(-1, 0), -1, 1, 0, 2), state(list(0, 1)), state(list(-1, 1))}},
+		{"one, twice", sample.Grammar(1, 1, "Aa", "Aa"), []api.State{state(list(-1, 0), -1, 1, 0, 2), state(list(0, 1, 1, 1)), state(list(-1, 1))}},
+		{"brackets", sample.Grammar(1, 2, "AaAbA", "A"), []api.State{
 			state(list(-1, 0), -1, 1, 0, 2), state(list(0, 1), -1, 1, 0, 3), state(list(-1, 1)),
 			state(list(0, 2), -2, 4), state(list(0, 3), -1, 1, 0, 5), state(list(0, 4)),
 		}},
-		{"sums of any shape", gram(1, 2, "AAaA", "Ab"), []api.State{
+		{"sums of any shape", sample.Grammar(1, 2, "AAaA", "Ab"), []api.State{
 			state(list(-1, 0), -2, 1, 0, 2), state(list(1, 1)), state(list(-1, 1, 0, 1), -1, 3),
 			state(list(0, 2), -2, 1, 0, 4), state(list(0, 1, 0, 3), -1, 3),
 		}},
-		{"sums of products", gram(3, 5, "AAaB", "AB", "BBbC", "BC", "CcAd", "Ce"), []api.State{
+		{"sums of products", sample.Grammar(3, 5, "AAaB", "AB", "BBbC", "BC", "CcAd", "Ce"), []api.State{
 			state(list(-1, 0), -5, 1, -3, 2, 0, 3, 1, 4, 2, 5),
 			state(list(5, 1)),
 			state(list(4, 1), -5, 1, -3, 2, 0, 6, 1, 4, 2, 5),
@@ -247,7 +221,7 @@ func TestStates(t *testing.T) {
 
 // P1401: state 0 is ahead of Start, whichever name that is.
 func TestStatesOfStart(t *testing.T) {
-	g := gram(2, 2, "AaBb", "BbA", "A")
+	g := sample.Grammar(2, 2, "AaBb", "BbA", "A")
 	leads(t, "the first one", g, []api.State{
 		state(list(-1, 0), -1, 1, 0, 2), state(list(0, 1), -2, 3, 1, 4), state(list(-1, 1)),
 		state(list(1, 1), -1, 1, 0, 5), state(list(0, 2), -2, 6), state(list(1, 2)), state(list(0, 3)),
@@ -261,15 +235,15 @@ func TestStatesOfStart(t *testing.T) {
 
 // P1401: a state is its items, the place too: one and the same if all of them are, another one if not.
 func TestWhichStatesAreOne(t *testing.T) {
-	leads(t, "one by two ways", gram(2, 3, "AaB", "AbB", "Bc"), []api.State{
+	leads(t, "one by two ways", sample.Grammar(2, 3, "AaB", "AbB", "Bc"), []api.State{
 		state(list(-1, 0), -2, 1, -1, 2, 0, 3), state(list(1, 1), -3, 4, 1, 5), state(list(0, 1), -3, 4, 1, 6),
 		state(list(-1, 1)), state(list(2, 1)), state(list(1, 2)), state(list(0, 2)),
 	}, api.OK)
-	leads(t, "one within the other", gram(2, 1, "AaaB", "AaB", "B"), []api.State{
+	leads(t, "one within the other", sample.Grammar(2, 1, "AaaB", "AaB", "B"), []api.State{
 		state(list(-1, 0), -1, 1, 0, 2), state(list(0, 1, 1, 1), -1, 3, 1, 4), state(list(-1, 1)),
 		state(list(0, 2), 1, 5), state(list(1, 2)), state(list(0, 3)),
 	}, api.OK)
-	leads(t, "back to itself", gram(1, 1, "AaA", "Aa"), []api.State{
+	leads(t, "back to itself", sample.Grammar(1, 1, "AaA", "Aa"), []api.State{
 		state(list(-1, 0), -1, 1, 0, 2), state(list(0, 1, 1, 1), -1, 1, 0, 3), state(list(-1, 1)), state(list(0, 2)),
 	}, api.OK)
 }
@@ -306,12 +280,12 @@ func TestErrors(t *testing.T) {
 		e    api.Errno
 	}{
 		{"zero", api.Grammar{}, api.ErrLong},
-		{"no rules", gram(1, 0), api.ErrUseless},
-		{"one that Start does not come to", gram(2, 1, "Aa", "Ba"), api.ErrUseless},
-		{"no end", gram(1, 1, "AaA"), api.ErrUseless},
-		{"a circle", gram(1, 1, "AA", "Aa"), api.ErrCycle},
-		{"a circle by nothing", gram(2, 1, "ABA", "Aa", "B"), api.ErrCycle},
-		{"a kind that is none", gram(1, 1, "Ab"), api.ErrName},
+		{"no rules", sample.Grammar(1, 0), api.ErrUseless},
+		{"one that Start does not come to", sample.Grammar(2, 1, "Aa", "Ba"), api.ErrUseless},
+		{"no end", sample.Grammar(1, 1, "AaA"), api.ErrUseless},
+		{"a circle", sample.Grammar(1, 1, "AA", "Aa"), api.ErrCycle},
+		{"a circle by nothing", sample.Grammar(2, 1, "ABA", "Aa", "B"), api.ErrCycle},
+		{"a kind that is none", sample.Grammar(1, 1, "Ab"), api.ErrName},
 		{"too heavy", api.Grammar{Names: 1, Rules: []api.Rule{{Dyn: 1001}}}, api.ErrArg},
 		{"a class that is none", api.Grammar{Names: 1, Rules: []api.Rule{{}}, RuleClass: []int{-1}}, api.ErrArg},
 	} {
@@ -322,70 +296,25 @@ func TestErrors(t *testing.T) {
 	}
 }
 
-// notForm is grammars that are none, by all that grammar.Form looks at.
-func notForm() []api.Grammar {
-	var l []api.Grammar
-	for _, f := range []func(g *api.Grammar){
-		func(g *api.Grammar) { g.Names = 0 },
-		func(g *api.Grammar) { g.Names = math.MinInt },
-		func(g *api.Grammar) { g.Names = 3 },
-		func(g *api.Grammar) { g.Names = 41 },
-		func(g *api.Grammar) { g.Names = math.MaxInt },
-		func(g *api.Grammar) { g.Kinds = -1 },
-		func(g *api.Grammar) { g.Kinds = 5 },
-		func(g *api.Grammar) { g.Kinds = 41 },
-		func(g *api.Grammar) { g.Kinds = math.MaxInt },
-		func(g *api.Grammar) { g.Rules = append(g.Rules, make([]api.Rule, 60)...) },
-		func(g *api.Grammar) { g.Forbid = slices.Repeat([][3]int{{1, 1, 2}}, 201) },
-		func(g *api.Grammar) { g.Start = -1 },
-		func(g *api.Grammar) { g.Start = 4 },
-		func(g *api.Grammar) { g.Start = math.MaxInt },
-		func(g *api.Grammar) { g.RuleClass = make([]int, 10) },
-		func(g *api.Grammar) { g.KindClass = []int{101} },
-		func(g *api.Grammar) { g.Rules[8].Left = 4 },
-		func(g *api.Grammar) { g.Rules[8].Right[0] = 4 },
-		func(g *api.Grammar) { g.Rules[5].Right[3] = math.MinInt },
-		func(g *api.Grammar) { g.Rules[0].Right = make([]int, 9) },
-		func(g *api.Grammar) { g.Rules[3].Dyn = math.MinInt },
-		func(g *api.Grammar) { g.Forbid = [][3]int{{1, 1, 0}} },
-	} {
-		g := sums()
-		f(&g)
-		l = append(l, g)
-	}
-	return append(l, api.Grammar{}, api.Grammar{Kinds: 1}, api.Grammar{Names: 1, Start: -1})
-}
-
 // P1401: of what is no grammar Close is nothing, and States tells the error that grammar.Form tells.
 func TestNotForm(t *testing.T) {
-	for _, g := range notForm() {
-		_, e := grammar.Form(g)
-		if e == api.OK {
-			t.Fatalf("a grammar: %+v", g)
-		}
-		leads(t, "no grammar", g, nil, e)
+	for _, x := range sample.NotForm() {
+		leads(t, "no grammar", x.Grammar, nil, x.Err)
 		for _, l := range [][]api.Item{nil, list(-1, 0), list(-1, 1), list(0, 0), list(1, 1, 8, 1), list(60, 0)} {
-			closes(t, "no grammar", g, l, nil)
+			closes(t, "no grammar", x.Grammar, l, nil)
 		}
 	}
 }
 
 // P1401: how the rules weigh, what is forbidden and which classes there are turns nothing.
 func TestOnlyRulesCount(t *testing.T) {
-	g := sums()
+	g := sample.Sums()
 	states, e := items.States(g)
 	if e != api.OK || len(states) == 0 {
 		t.Fatalf("States: %v, %d", states, e)
 	}
 	begin := items.Close(g, list(-1, 0, 1, 1))
-	g.Forbid = [][3]int{{1, 1, 2}, {2, 2, 4}, {5, 2, 3}}
-	g.RuleClass, g.KindClass = []int{1, 2, 3, 4, 5, 6, 7, 8, 9}, []int{100, 0, 5}
-	for i := range g.Rules {
-		g.Rules[i].Dyn = 1000 - 250*i
-	}
-	if at, e := grammar.Form(g); e != api.OK {
-		t.Fatal(at, e)
-	}
+	g = sample.Dressed()
 	closes(t, "weights, classes, what is forbidden", g, list(-1, 0, 1, 1), begin)
 	leads(t, "weights, classes, what is forbidden", g, states, api.OK)
 }

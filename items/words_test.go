@@ -10,6 +10,7 @@ import (
 	"undergrowth/cycle"
 	"undergrowth/grammar"
 	"undergrowth/items"
+	"undergrowth/sample"
 )
 
 // rightOf is what a rule comes to; the rule -1 comes to Start alone.
@@ -89,62 +90,11 @@ func statesByWords(g api.Grammar) []api.State {
 	return all
 }
 
-// allRows is all rows of at most so many symbols of a grammar.
-func allRows(names, kinds, most int) [][]int {
-	all, last := [][]int{nil}, [][]int{nil}
-	for range most {
-		var longer [][]int
-		for _, l := range last {
-			for s := -kinds; s < names; s++ {
-				longer = append(longer, append(slices.Clone(l), s))
-			}
-		}
-		all, last = append(all, longer...), longer
-	}
-	return all
-}
-
-// each calls do with every grammar of at most so many of the rules.
-func each(g api.Grammar, rules []api.Rule, most int, do func(g api.Grammar)) {
-	do(g)
-	if most == 0 {
-		return
-	}
-	for i, r := range rules {
-		with := g
-		with.Rules = append(slices.Clone(g.Rules), r)
-		each(with, rules[i+1:], most-1, do)
-	}
-}
-
-// chance is a row of numbers that seem to have no rule.
-type chance uint64
-
-// below is the next one, from 0 to n - 1.
-func (c *chance) below(n int) int {
-	*c = *c*6364136223846793005 + 1442695040888963407
-	return int(uint64(*c)>>33) % n
-}
-
-// some is a grammar, many of whose rules are short.
-func (c *chance) some(names, kinds, rules, right int) api.Grammar {
-	g := api.Grammar{Names: 1 + c.below(names), Kinds: c.below(kinds + 1)}
-	g.Start = c.below(g.Names)
-	for range c.below(rules + 1) {
-		r := api.Rule{Left: c.below(g.Names)}
-		for range c.below(right + 1) {
-			r.Right = append(r.Right, c.below(g.Names+g.Kinds)-g.Kinds)
-		}
-		g.Rules = append(g.Rules, r)
-	}
-	return g
-}
-
 // someItems is a few items, some of which are none.
-func (c *chance) someItems(g api.Grammar) []api.Item {
+func someItems(c *sample.Chance, g api.Grammar) []api.Item {
 	var l []api.Item
-	for range c.below(5) {
-		l = append(l, api.Item{Rule: c.below(len(g.Rules)+4) - 2, At: c.below(5) - 1})
+	for range c.Below(5) {
+		l = append(l, api.Item{Rule: c.Below(len(g.Rules)+4) - 2, At: c.Below(5) - 1})
 	}
 	return l
 }
@@ -167,11 +117,11 @@ func holds(t *testing.T, g api.Grammar, l []api.Item) api.Errno {
 
 // P1401: many grammars, held against the words of the document.
 func TestManyGrammars(t *testing.T) {
-	next := chance(14)
+	next := sample.Chance(14)
 	told := map[api.Errno]int{}
 	for i := range 20000 {
-		g := next.some(5, 4, 14, 1+i%5)
-		told[holds(t, g, next.someItems(g))]++
+		g := next.Grammar(5, 4, 14, 1+i%5)
+		told[holds(t, g, someItems(&next, g))]++
 	}
 	if told[api.OK] < 500 || told[api.ErrUseless] < 500 || told[api.ErrCycle] < 100 {
 		t.Errorf("not of all kinds: %v", told)
@@ -180,24 +130,10 @@ func TestManyGrammars(t *testing.T) {
 
 // P1401: greater grammars, up to the greatest: a row of names, each of which comes up, and ends.
 func TestGreatGrammars(t *testing.T) {
-	next := chance(1401)
+	next := sample.Chance(1401)
 	most := 0
 	for range 150 {
-		g := api.Grammar{Names: 1 + next.below(40), Kinds: 1 + next.below(40)}
-		for i := range g.Names {
-			right := []int{-1 - next.below(g.Kinds)}
-			if i+1 < g.Names {
-				right = append(right, i+1)
-			}
-			g.Rules = append(g.Rules, api.Rule{Left: i, Right: right})
-		}
-		for len(g.Rules) < api.MaxRules {
-			r := api.Rule{Left: next.below(g.Names), Right: []int{-1 - next.below(g.Kinds)}}
-			for range next.below(api.MaxRight) {
-				r.Right = append(r.Right, next.below(g.Names+g.Kinds)-g.Kinds)
-			}
-			g.Rules = append(g.Rules, r)
-		}
+		g := next.Great()
 		if e := holds(t, g, allItems(g)); e != api.OK {
 			t.Fatalf("%d: %+v", e, g)
 		}
@@ -248,19 +184,6 @@ func standBehind(g api.Grammar, all []ahead, row []int) []api.Item {
 	})
 }
 
-// walk goes through the states by a row of symbols and answers where it ends; -1 if it leads nowhere.
-func walk(l []api.State, row []int) int {
-	at := 0
-	for _, s := range row {
-		i := slices.Index(l[at].Syms, s)
-		if i < 0 {
-			return -1
-		}
-		at = l[at].To[i]
-	}
-	return at
-}
-
 // meansWhatItDerives holds each row of at most so many symbols, and where it leads to, against what comes of Start; it answers how many lead somewhere.
 func meansWhatItDerives(t *testing.T, g api.Grammar, most int) int {
 	t.Helper()
@@ -269,9 +192,9 @@ func meansWhatItDerives(t *testing.T, g api.Grammar, most int) int {
 		t.Fatalf("States: %d: %+v", e, g)
 	}
 	all, n := aheadsOf(g, most), 0
-	for _, row := range allRows(g.Names, g.Kinds, most) {
+	for _, row := range sample.Rows(g.Names, g.Kinds, most) {
 		want := standBehind(g, all, row)
-		at := walk(l, row)
+		at := sample.Walk(l, row)
 		if at < 0 {
 			if len(want) > 0 {
 				t.Fatalf("%v leads nowhere; want %v: %+v", row, want, g)
@@ -288,12 +211,8 @@ func meansWhatItDerives(t *testing.T, g api.Grammar, most int) int {
 
 // P1401: where a row of symbols leads stand all items that may have their point right behind it, and no others: all grammars of two names, a kind and up to three rules of up to two symbols.
 func TestAllSmallGrammars(t *testing.T) {
-	var rules []api.Rule
-	for _, l := range allRows(2, 1, 2) {
-		rules = append(rules, api.Rule{Left: 0, Right: l}, api.Rule{Left: 1, Right: l})
-	}
 	told, rows := map[api.Errno]int{}, 0
-	each(api.Grammar{Names: 2, Kinds: 1}, rules, 3, func(g api.Grammar) {
+	sample.Small(func(g api.Grammar) {
 		for g.Start = range 2 {
 			e := holds(t, g, allItems(g))
 			if told[e]++; e == api.OK {
@@ -308,10 +227,10 @@ func TestAllSmallGrammars(t *testing.T) {
 
 // P1401: the same of many grammars that are greater.
 func TestManyMeanings(t *testing.T) {
-	next := chance(140114)
+	next := sample.Chance(140114)
 	grammars, rows := 0, 0
 	for grammars < 300 {
-		g := next.some(3, 3, 9, 3)
+		g := next.Grammar(3, 3, 9, 3)
 		if _, e := cycle.Check(g); e == api.OK && len(g.Rules) > g.Names {
 			grammars, rows = grammars+1, rows+meansWhatItDerives(t, g, 4)
 		}
@@ -321,38 +240,14 @@ func TestManyMeanings(t *testing.T) {
 	}
 }
 
-// wide is a grammar of many states: behind `j` and `k` a row of any `a` and `b` may follow, in which an `a` stands ten and eight places ahead of the end, so there is a state for each way in which `a` and `b` can stand in the last places. Further rules, with so many symbols in all, make a state a symbol.
-func wide(more int) api.Grammar {
-	g := api.Grammar{Names: 13, Kinds: 40}
-	rule := func(left int, right ...int) { g.Rules = append(g.Rules, api.Rule{Left: left, Right: right}) }
-	for name := 1; name < 10; name++ {
-		rule(name, -1, name+1)
-		rule(name, -2, name+1)
-	}
-	rule(10, -1)
-	for i, first := range []int{1, 3} {
-		name := 11 + i
-		rule(0, -10-i, name)
-		rule(name, -1, name)
-		rule(name, -2, name)
-		rule(name, -1, first)
-	}
-	for kind := 12; more > 0; kind++ {
-		n := min(more, api.MaxRight)
-		rule(0, slices.Repeat([]int{-1 - kind}, n)...)
-		more -= n
-	}
-	return g
-}
-
 // P1401: MaxItems states may be, one more may not.
 func TestMostStates(t *testing.T) {
-	base := len(statesByWords(wide(0)))
+	base := len(statesByWords(sample.Wide(0)))
 	if base < api.MaxItems-200 || base > api.MaxItems {
 		t.Fatalf("%d states", base)
 	}
 	for more := range 12 {
-		g := wide(api.MaxItems - base - 3 + more)
+		g := sample.Wide(api.MaxItems - base - 3 + more)
 		want := statesByWords(g)
 		if n := api.MaxItems - 3 + more; len(want) != n {
 			t.Fatalf("%d states; want %d", len(want), n)
@@ -367,7 +262,7 @@ func TestMostStates(t *testing.T) {
 
 // P1401: cycle.Check's error comes first, where there would be too many states, too; Close has no such limit.
 func TestTooManyStates(t *testing.T) {
-	g := wide(200)
+	g := sample.Wide(200)
 	if at, e := cycle.Check(g); e != api.OK {
 		t.Fatal(at, e)
 	}
@@ -384,12 +279,12 @@ func TestTooManyStates(t *testing.T) {
 
 // P1402: what is handed in stays as it is, its spare room too.
 func TestHandedInStays(t *testing.T) {
-	g, was := roomy(), spread(roomy())
+	g, was := sample.Roomy(), sample.Spread(sample.Roomy())
 	l := list(5, 2, -1, 0, 77, 1, 5, 2, 0, 0, 8, 1)
 	had := slices.Clone(l)
-	leads(t, "roomy", g, statesByWords(sums()), api.OK)
-	closes(t, "roomy", g, l[:4], closeByWords(sums(), list(5, 2, -1, 0)))
-	if now := spread(g); !reflect.DeepEqual(now, was) {
+	leads(t, "roomy", g, statesByWords(sample.Sums()), api.OK)
+	closes(t, "roomy", g, l[:4], closeByWords(sample.Sums(), list(5, 2, -1, 0)))
+	if now := sample.Spread(g); !reflect.DeepEqual(now, was) {
 		t.Errorf("what is handed in: %+v; was %+v", now, was)
 	}
 	if !slices.Equal(l, had) {
@@ -397,47 +292,15 @@ func TestHandedInStays(t *testing.T) {
 	}
 }
 
-// roomy is sums, each list with spare room.
-func roomy() api.Grammar {
-	g := sums()
-	for i, r := range g.Rules {
-		g.Rules[i].Right = append(slices.Clone(r.Right), 7, 8, 9)[:len(r.Right)]
-	}
-	g.Rules = append(g.Rules, api.Rule{Left: 7, Right: []int{5}}, api.Rule{Left: 8})[:9]
-	g.Forbid = [][3]int{{1, 1, 2}, {7, 7, 7}}[:1]
-	g.RuleClass, g.KindClass = []int{1, 2, 333}[:2], []int{3, 4, 555}[:2]
-	return g
-}
-
-// spread is g with the spare room of its lists.
-func spread(g api.Grammar) api.Grammar {
-	g.Rules = slices.Clone(g.Rules[:cap(g.Rules)])
-	for i, r := range g.Rules {
-		g.Rules[i].Right = r.Right[:cap(r.Right)]
-	}
-	g.Forbid = g.Forbid[:cap(g.Forbid)]
-	g.RuleClass = g.RuleClass[:cap(g.RuleClass)]
-	g.KindClass = g.KindClass[:cap(g.KindClass)]
-	return g
-}
-
-// spoil fills a list and its spare room with a thing.
-func spoil[T any](l []T, with T) {
-	l = l[:cap(l)]
-	for i := range l {
-		l[i] = with
-	}
-}
-
 // P1402: what is answered is new memory, each list of its own: what is done to one turns no other, nor what is told later.
 func TestAnswersAreNew(t *testing.T) {
-	g, want := sums(), statesByWords(sums())
+	g, want := sample.Sums(), statesByWords(sample.Sums())
 	item := api.Item{Rule: 55, At: 5}
 	for range 3 {
 		l := list(5, 2, 1, 0)
 		got := items.Close(g, l)
 		again := items.Close(g, got)
-		spoil(got, item)
+		sample.Spoil(got, item)
 		if !slices.Equal(again, closeByWords(g, l)) || !slices.Equal(l, list(5, 2, 1, 0)) {
 			t.Errorf("spoiled: %v, %v", again, l)
 		}
@@ -446,9 +309,9 @@ func TestAnswersAreNew(t *testing.T) {
 		all, _ := items.States(g)
 		other, _ := items.States(g)
 		for i := range all {
-			spoil(all[i].Items, item)
-			spoil(all[i].Syms, 444)
-			spoil(all[i].To, 333)
+			sample.Spoil(all[i].Items, item)
+			sample.Spoil(all[i].Syms, 444)
+			sample.Spoil(all[i].To, 333)
 			for k := range want {
 				isSpoiled := api.State{Items: slices.Repeat([]api.Item{item}, len(want[k].Items)), Syms: slices.Repeat([]int{444}, len(want[k].Syms)), To: slices.Repeat([]int{333}, len(want[k].To))}
 				if k <= i && !sameStates(all[k:k+1], []api.State{isSpoiled}) || k > i && !sameStates(all[k:k+1], want[k:k+1]) {
@@ -456,7 +319,7 @@ func TestAnswersAreNew(t *testing.T) {
 				}
 			}
 		}
-		spoil(all, api.State{})
+		sample.Spoil(all, api.State{})
 		if !sameStates(other, want) {
 			t.Errorf("spoiled: %v", other)
 		}
@@ -465,20 +328,20 @@ func TestAnswersAreNew(t *testing.T) {
 
 // P1402: one's lists have no memory in common, the spare room neither.
 func TestListsOfTheirOwn(t *testing.T) {
-	l, _ := items.States(sums())
+	l, _ := items.States(sample.Sums())
 	for i := range l {
-		spoil(l[i].Items[len(l[i].Items):cap(l[i].Items)], api.Item{Rule: 9})
-		spoil(l[i].Syms[len(l[i].Syms):cap(l[i].Syms)], 99)
-		spoil(l[i].To[len(l[i].To):cap(l[i].To)], 99)
+		sample.Spoil(l[i].Items[len(l[i].Items):cap(l[i].Items)], api.Item{Rule: 9})
+		sample.Spoil(l[i].Syms[len(l[i].Syms):cap(l[i].Syms)], 99)
+		sample.Spoil(l[i].To[len(l[i].To):cap(l[i].To)], 99)
 	}
-	if want := statesByWords(sums()); !sameStates(l, want) {
+	if want := statesByWords(sample.Sums()); !sameStates(l, want) {
 		t.Errorf("%v; want %v", l, want)
 	}
 }
 
 // P1402: what is told hangs on the arguments alone: one grammar that is turned is gone through anew each time.
 func TestNothingIsKept(t *testing.T) {
-	g := gram(2, 2, "AaB", "Bbb", "BA")
+	g := sample.Grammar(2, 2, "AaB", "Bbb", "BA")
 	begin := list(-1, 0)
 	for range 3 {
 		leads(t, "as it was", g, statesByWords(g), api.OK)
@@ -499,11 +362,11 @@ func TestNothingIsKept(t *testing.T) {
 
 // P1402: who asks beside turns nothing.
 func TestManyAsk(t *testing.T) {
-	next := chance(1402)
+	next := sample.Chance(1402)
 	var all []api.Grammar
 	var states [][]api.State
 	for len(all) < 20 {
-		g := next.some(5, 4, 14, 4)
+		g := next.Grammar(5, 4, 14, 4)
 		if _, e := cycle.Check(g); e == api.OK {
 			all, states = append(all, g), append(states, statesByWords(g))
 		}

@@ -6,38 +6,12 @@ import (
 	"testing"
 
 	"undergrowth/api"
-	"undergrowth/grammar"
 	"undergrowth/reach"
+	"undergrowth/sample"
 )
 
 // most is what a length above it is told as.
 const most = 1_000_000_000
-
-// gram is a grammar of rules written as texts: the name, and what it comes to; capitals are names from A on, other letters kinds from a on.
-func gram(names, kinds int, rules ...string) api.Grammar {
-	g := api.Grammar{Names: names, Kinds: kinds}
-	for _, s := range rules {
-		l := symbols(s)
-		g.Rules = append(g.Rules, api.Rule{Left: l[0], Right: l[1:]})
-	}
-	return g
-}
-
-// symbols is a row of symbols, written as in gram.
-func symbols(s string) []int {
-	l := make([]int, len(s))
-	for i, c := range []byte(s) {
-		if l[i] = int(c) - 'A'; c >= 'a' {
-			l[i] = -1 - (int(c) - 'a')
-		}
-	}
-	return l
-}
-
-// sums is a list of sums: of the names list, sum, term and sign, and of the kinds + * ( ) x ; and one of no use.
-func sums() api.Grammar {
-	return gram(4, 7, "A", "AABf", "BBaC", "BC", "CCbC", "CDcBd", "Ce", "D", "Da")
-}
 
 // tells looks at what the three calls tell of each name.
 func tells(t *testing.T, what string, g api.Grammar, to []bool, long []int) {
@@ -72,26 +46,17 @@ func only(n int, places ...int) []bool {
 	return l
 }
 
-// upTo is the numbers from 0 to n - 1.
-func upTo(n int) []int {
-	l := make([]int, n)
-	for i := range l {
-		l[i] = i
-	}
-	return l
-}
-
 // P1201: grammars as they are.
 func TestGrammars(t *testing.T) {
 	tells(t, "example", api.Grammar{Names: 1}, []bool{true}, []int{-1})
-	tells(t, "nothing", gram(1, 0, "A"), []bool{true}, []int{0})
-	tells(t, "a kind", gram(1, 1, "Aa"), []bool{true}, []int{1})
-	tells(t, "sums", sums(), only(4, 0, 1, 2, 3), []int{0, 1, 1, 0})
-	tells(t, "brackets", gram(1, 2, "AaAbA", "A"), only(1, 0), []int{0})
-	tells(t, "brackets around something", gram(1, 3, "AaAb", "Aabc"), only(1, 0), []int{3})
-	tells(t, "if else", gram(3, 4, "AaACB", "AbC", "B", "BbA", "Cc"), only(3, 0, 1, 2), []int{2, 0, 1})
-	tells(t, "words", gram(3, 2, "ABBC", "Baaa", "BCC", "Cab", "CbCCa"), only(3, 0, 1, 2), []int{8, 3, 2})
-	tells(t, "by itself", gram(2, 1, "AA", "AB", "BB", "BA", "BAa", "Aaa"), only(2, 0, 1), []int{2, 2})
+	tells(t, "nothing", sample.Grammar(1, 0, "A"), []bool{true}, []int{0})
+	tells(t, "a kind", sample.Grammar(1, 1, "Aa"), []bool{true}, []int{1})
+	tells(t, "sums", sample.Sums(), only(4, 0, 1, 2, 3), []int{0, 1, 1, 0})
+	tells(t, "brackets", sample.Grammar(1, 2, "AaAbA", "A"), only(1, 0), []int{0})
+	tells(t, "brackets around something", sample.Grammar(1, 3, "AaAb", "Aabc"), only(1, 0), []int{3})
+	tells(t, "if else", sample.Grammar(3, 4, "AaACB", "AbC", "B", "BbA", "Cc"), only(3, 0, 1, 2), []int{2, 0, 1})
+	tells(t, "words", sample.Grammar(3, 2, "ABBC", "Baaa", "BCC", "Cab", "CbCCa"), only(3, 0, 1, 2), []int{8, 3, 2})
+	tells(t, "by itself", sample.Grammar(2, 1, "AA", "AB", "BB", "BA", "BAa", "Aaa"), only(2, 0, 1), []int{2, 2})
 }
 
 // P1201: Start, and what stands in a rule of a name that is: anywhere in it, in any of its rules, wherever they stand.
@@ -113,7 +78,7 @@ func TestReachable(t *testing.T) {
 		{4, []string{"ABCD", "DA"}, [][]int{{0, 1, 2, 3}, {1}, {2}, {0, 1, 2, 3}}},
 		{4, []string{"AaaaaaaaD", "DDDDDDDDB"}, [][]int{{0, 1, 3}, {1}, {2}, {1, 3}}},
 	} {
-		g := gram(x.names, 1, x.rules...)
+		g := sample.Grammar(x.names, 1, x.rules...)
 		for start, to := range x.to {
 			g.Start = start
 			if got, want := reach.Reachable(g), only(x.names, to...); !slices.Equal(got, want) {
@@ -125,20 +90,20 @@ func TestReachable(t *testing.T) {
 
 // P1201: what comes to no end, or stands where no row comes to an end, is reachable all the same; what has no row of kinds takes the rows of all that needs it.
 func TestNoEnd(t *testing.T) {
-	tells(t, "no rules", gram(2, 2, "AaBb"), only(2, 0, 1), []int{-1, -1})
-	tells(t, "no rules ahead", gram(3, 2, "ABC", "Ca"), only(3, 0, 1, 2), []int{-1, -1, 1})
-	tells(t, "no end", gram(2, 2, "AaAB", "BAb"), only(2, 0, 1), []int{-1, -1})
-	tells(t, "itself alone", gram(1, 1, "AA"), only(1, 0), []int{-1})
-	tells(t, "itself, and more", gram(1, 1, "AAa", "AaA", "AAA"), only(1, 0), []int{-1})
-	tells(t, "a way around", gram(3, 1, "AB", "AaC", "BB", "Caa"), only(3, 0, 1, 2), []int{3, -1, 2})
-	tells(t, "no end at its last symbol", gram(2, 1, "AaaaaaaaB", "Aa"), only(2, 0, 1), []int{1, -1})
-	tells(t, "no end at its first symbol", gram(2, 1, "ABaaaaaaa", "A"), only(2, 0, 1), []int{0, -1})
-	tells(t, "of no use, and short", gram(3, 1, "ABa", "Baa", "C", "CA"), only(3, 0, 1), []int{3, 2, 0})
+	tells(t, "no rules", sample.Grammar(2, 2, "AaBb"), only(2, 0, 1), []int{-1, -1})
+	tells(t, "no rules ahead", sample.Grammar(3, 2, "ABC", "Ca"), only(3, 0, 1, 2), []int{-1, -1, 1})
+	tells(t, "no end", sample.Grammar(2, 2, "AaAB", "BAb"), only(2, 0, 1), []int{-1, -1})
+	tells(t, "itself alone", sample.Grammar(1, 1, "AA"), only(1, 0), []int{-1})
+	tells(t, "itself, and more", sample.Grammar(1, 1, "AAa", "AaA", "AAA"), only(1, 0), []int{-1})
+	tells(t, "a way around", sample.Grammar(3, 1, "AB", "AaC", "BB", "Caa"), only(3, 0, 1, 2), []int{3, -1, 2})
+	tells(t, "no end at its last symbol", sample.Grammar(2, 1, "AaaaaaaaB", "Aa"), only(2, 0, 1), []int{1, -1})
+	tells(t, "no end at its first symbol", sample.Grammar(2, 1, "ABaaaaaaa", "A"), only(2, 0, 1), []int{0, -1})
+	tells(t, "of no use, and short", sample.Grammar(3, 1, "ABa", "Baa", "C", "CA"), only(3, 0, 1), []int{3, 2, 0})
 }
 
 // P1201: Productive and Shortest tell of all names, whatever the Start is.
 func TestStart(t *testing.T) {
-	g := gram(4, 2, "ABB", "Bab", "C", "CB", "DD")
+	g := sample.Grammar(4, 2, "ABB", "Bab", "C", "CB", "DD")
 	for g.Start = range 4 {
 		lengths(t, "start", g, []int{4, 2, 0, -1})
 	}
@@ -149,11 +114,11 @@ func TestShortest(t *testing.T) {
 	rules := []string{"Aaaaaaaaa", "AaB", "AC", "Bbb", "BaCC", "CDD", "CaDB", "DEE", "Eaaa", "Ea", "Eaa", "ADDDD", "CCCa"}
 	long := []int{3, 2, 4, 2, 1}
 	for range rules {
-		tells(t, "turned", gram(5, 2, rules...), only(5, 0, 1, 2, 3, 4), long)
+		tells(t, "turned", sample.Grammar(5, 2, rules...), only(5, 0, 1, 2, 3, 4), long)
 		rules = append(rules[1:], rules[0])
 	}
 	slices.Reverse(rules)
-	tells(t, "from the end", gram(5, 2, rules...), only(5, 0, 1, 2, 3, 4), long)
+	tells(t, "from the end", sample.Grammar(5, 2, rules...), only(5, 0, 1, 2, 3, 4), long)
 	for n := range 9 {
 		row := slices.Repeat([]int{-1}, n)
 		g := api.Grammar{Names: 2, Kinds: 1, Rules: []api.Rule{{Right: slices.Repeat([]int{-1}, 8)}, {Right: row}, {Left: 1, Right: slices.Repeat([]int{0}, n)}, {Right: slices.Repeat([]int{0}, 8)}}}
@@ -176,7 +141,7 @@ func TestRows(t *testing.T) {
 			slices.Reverse(g.Rules)
 		}
 		for g.Start = range 40 {
-			tells(t, "row", g, only(40, upTo(40)[g.Start:]...), long)
+			tells(t, "row", g, only(40, sample.UpTo(40)[g.Start:]...), long)
 		}
 		g.Start = 0
 		for i, r := range g.Rules {
@@ -184,7 +149,7 @@ func TestRows(t *testing.T) {
 				g.Rules[i].Right = []int{39}
 			}
 		}
-		tells(t, "row without an end", g, only(40, upTo(40)...), slices.Repeat([]int{-1}, 40))
+		tells(t, "row without an end", g, only(40, sample.UpTo(40)...), slices.Repeat([]int{-1}, 40))
 	}
 }
 
@@ -209,9 +174,9 @@ func TestLong(t *testing.T) {
 		for i := range long {
 			long[i] = min(n>>i, most)
 		}
-		tells(t, "exactly", g, only(g.Names, upTo(g.Names)...), long)
+		tells(t, "exactly", g, only(g.Names, sample.UpTo(g.Names)...), long)
 		slices.Reverse(g.Rules)
-		tells(t, "exactly, from the end", g, only(g.Names, upTo(g.Names)...), long)
+		tells(t, "exactly, from the end", g, only(g.Names, sample.UpTo(g.Names)...), long)
 	}
 }
 
@@ -226,12 +191,12 @@ func TestTooLong(t *testing.T) {
 		}
 		g.Rules[0].Right = []int{-1}
 		for range 2 {
-			tells(t, "ever longer", g, only(40, upTo(40)...), long)
+			tells(t, "ever longer", g, only(40, sample.UpTo(40)...), long)
 			slices.Reverse(g.Rules)
 		}
 		g.Rules = append(g.Rules, api.Rule{Left: 1, Right: []int{-1, -1, -1}})
 		long[0], long[1] = 3*times, 3
-		tells(t, "a shorter one", g, only(40, upTo(40)...), long)
+		tells(t, "a shorter one", g, only(40, sample.UpTo(40)...), long)
 	}
 	for _, n := range []int{most - 1, most, most + 1} {
 		g := exactly(n)
@@ -250,7 +215,7 @@ func TestGreatest(t *testing.T) {
 	for i := range 60 {
 		g.Rules = append(g.Rules, api.Rule{Left: i % 40, Right: []int{-40, (i + 7) % 40, -1, (i + 11) % 40, -20, (i + 39) % 40, -2, -3}})
 	}
-	tells(t, "no end", g, only(40, upTo(40)...), slices.Repeat([]int{-1}, 40))
+	tells(t, "no end", g, only(40, sample.UpTo(40)...), slices.Repeat([]int{-1}, 40))
 	long := make([]int, 40)
 	for i := range 20 {
 		g.Rules[i] = api.Rule{Left: 2 * i, Right: slices.Repeat([]int{-1 - i}, i%8)}
@@ -271,66 +236,18 @@ func evens(n int) []int {
 	return l
 }
 
-// notForm is grammars that are none, by all that grammar.Form looks at.
-func notForm() []api.Grammar {
-	var l []api.Grammar
-	for _, f := range []func(g *api.Grammar){
-		func(g *api.Grammar) { g.Names = 0 },
-		func(g *api.Grammar) { g.Names = -1 },
-		func(g *api.Grammar) { g.Names = math.MinInt },
-		func(g *api.Grammar) { g.Names = 41 },
-		func(g *api.Grammar) { g.Names = math.MaxInt },
-		func(g *api.Grammar) { g.Kinds = -1 },
-		func(g *api.Grammar) { g.Kinds = 41 },
-		func(g *api.Grammar) { g.Kinds = math.MaxInt },
-		func(g *api.Grammar) { g.Rules = append(g.Rules, make([]api.Rule, 60)...) },
-		func(g *api.Grammar) { g.Forbid = slices.Repeat([][3]int{{1, 1, 2}}, 201) },
-		func(g *api.Grammar) { g.Start = -1 },
-		func(g *api.Grammar) { g.Start = 4 },
-		func(g *api.Grammar) { g.Start = math.MinInt },
-		func(g *api.Grammar) { g.RuleClass = make([]int, 10) },
-		func(g *api.Grammar) { g.RuleClass = []int{101} },
-		func(g *api.Grammar) { g.KindClass = make([]int, 8) },
-		func(g *api.Grammar) { g.KindClass = []int{-1} },
-		func(g *api.Grammar) { g.Rules[8].Left = 4 },
-		func(g *api.Grammar) { g.Rules[0].Left = -1 },
-		func(g *api.Grammar) { g.Rules[8].Right[0] = 4 },
-		func(g *api.Grammar) { g.Rules[8].Right[0] = math.MaxInt },
-		func(g *api.Grammar) { g.Rules[8].Right[0] = -8 },
-		func(g *api.Grammar) { g.Rules[8].Right[0] = math.MinInt },
-		func(g *api.Grammar) { g.Rules[0].Right = make([]int, 9) },
-		func(g *api.Grammar) { g.Rules[0].Dyn = 1001 },
-		func(g *api.Grammar) { g.Forbid = [][3]int{{1, 1, 0}} },
-	} {
-		g := sums()
-		f(&g)
-		l = append(l, g)
-	}
-	return append(l, api.Grammar{}, api.Grammar{Kinds: 1})
-}
-
 // P1201: of what is no grammar nothing is told.
 func TestNotForm(t *testing.T) {
-	for _, g := range notForm() {
-		if _, e := grammar.Form(g); e == api.OK {
-			t.Fatalf("a grammar: %+v", g)
-		}
-		tells(t, "no grammar", g, nil, nil)
+	for _, x := range sample.NotForm() {
+		tells(t, "no grammar", x.Grammar, nil, nil)
 	}
 }
 
 // P1201: how the rules weigh, what is forbidden and which classes there are turns nothing; nor do rules that stand twice, or from the end.
 func TestOnlyRulesCount(t *testing.T) {
-	g := sums()
+	g := sample.Sums()
 	to, long := reach.Reachable(g), reach.Shortest(g)
-	g.Forbid = [][3]int{{1, 1, 2}, {1, 1, 3}, {5, 0, 7}, {5, 0, 8}}
-	g.RuleClass, g.KindClass = upTo(9), upTo(7)
-	for i := range g.Rules {
-		g.Rules[i].Dyn = 1000 - 250*i
-	}
-	if at, e := grammar.Form(g); e != api.OK {
-		t.Fatal(at, e)
-	}
+	g = sample.Dressed()
 	tells(t, "weights, classes, what is forbidden", g, to, long)
 	g.Rules = append(g.Rules, g.Rules...)
 	slices.Reverse(g.Rules)

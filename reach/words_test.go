@@ -8,6 +8,7 @@ import (
 
 	"undergrowth/api"
 	"undergrowth/reach"
+	"undergrowth/sample"
 )
 
 // rows is all rows of at most so many symbols that l derives by rows that are no longer.
@@ -60,41 +61,9 @@ func byRows(g api.Grammar, most int) ([]bool, []int) {
 	return to, long
 }
 
-// allRows is all rows of at most so many symbols of a grammar.
-func allRows(names, kinds, most int) [][]int {
-	all, last := [][]int{nil}, [][]int{nil}
-	for range most {
-		var longer [][]int
-		for _, l := range last {
-			for s := -kinds; s < names; s++ {
-				longer = append(longer, append(slices.Clone(l), s))
-			}
-		}
-		all, last = append(all, longer...), longer
-	}
-	return all
-}
-
-// each calls do with every grammar of at most so many of the rules.
-func each(g api.Grammar, rules []api.Rule, most int, do func(g api.Grammar)) {
-	do(g)
-	if most == 0 {
-		return
-	}
-	for i, r := range rules {
-		with := g
-		with.Rules = append(slices.Clone(g.Rules), r)
-		each(with, rules[i+1:], most-1, do)
-	}
-}
-
 // P1201: all grammars of two names, a kind and up to three rules of up to two symbols, held against all that they derive.
 func TestAllSmallGrammars(t *testing.T) {
-	var rules []api.Rule
-	for _, l := range allRows(2, 1, 2) {
-		rules = append(rules, api.Rule{Left: 0, Right: l}, api.Rule{Left: 1, Right: l})
-	}
-	each(api.Grammar{Names: 2, Kinds: 1}, rules, 3, func(g api.Grammar) {
+	sample.Small(func(g api.Grammar) {
 		for g.Start = range 2 {
 			to, long := byRows(g, 6)
 			tells(t, "by rows", g, to, long)
@@ -103,29 +72,6 @@ func TestAllSmallGrammars(t *testing.T) {
 			t.Fatalf("%+v", g)
 		}
 	})
-}
-
-// chance is a row of numbers that seem to have no rule.
-type chance uint64
-
-// below is the next one, from 0 to n - 1.
-func (c *chance) below(n int) int {
-	*c = *c*6364136223846793005 + 1442695040888963407
-	return int(uint64(*c)>>33) % n
-}
-
-// some is a grammar, many of whose rules are short.
-func (c *chance) some(names, kinds, rules, right int) api.Grammar {
-	g := api.Grammar{Names: 1 + c.below(names), Kinds: c.below(kinds + 1)}
-	g.Start = c.below(g.Names)
-	for range c.below(rules + 1) {
-		r := api.Rule{Left: c.below(g.Names)}
-		for range c.below(right + 1) {
-			r.Right = append(r.Right, c.below(g.Names+g.Kinds)-g.Kinds)
-		}
-		g.Rules = append(g.Rules, r)
-	}
-	return g
 }
 
 // byPaths is the length of the shortest row that a tree has in which no name of path, and none twice on any way down, comes up; a shortest one is such a tree.
@@ -186,10 +132,10 @@ func byWays(g api.Grammar) ([]bool, []int) {
 
 // P1201: many greater grammars, held against the ways and trees that they have.
 func TestManyGrammars(t *testing.T) {
-	next := chance(12)
+	next := sample.Chance(12)
 	reached, dead, long := 0, 0, 0
 	for range 3000 {
-		g := next.some(7, 4, 14, 4)
+		g := next.Grammar(7, 4, 14, 4)
 		to, lengths := byWays(g)
 		tells(t, "by ways", g, to, lengths)
 		for name, n := range lengths {
@@ -212,39 +158,15 @@ func TestManyGrammars(t *testing.T) {
 	}
 }
 
-// roomy is sums, each list with spare room.
-func roomy() api.Grammar {
-	g := sums()
-	for i, r := range g.Rules {
-		g.Rules[i].Right = append(slices.Clone(r.Right), 7, 8, 9)[:len(r.Right)]
-	}
-	g.Rules = append(g.Rules, api.Rule{Left: 7, Right: []int{5}}, api.Rule{Left: 8})[:9]
-	g.Forbid = [][3]int{{1, 1, 2}, {7, 7, 7}}[:1]
-	g.RuleClass, g.KindClass = []int{1, 2, 333}[:2], []int{3, 4, 555}[:2]
-	return g
-}
-
-// spread is g with the spare room of its lists.
-func spread(g api.Grammar) api.Grammar {
-	g.Rules = slices.Clone(g.Rules[:cap(g.Rules)])
-	for i, r := range g.Rules {
-		g.Rules[i].Right = r.Right[:cap(r.Right)]
-	}
-	g.Forbid = g.Forbid[:cap(g.Forbid)]
-	g.RuleClass = g.RuleClass[:cap(g.RuleClass)]
-	g.KindClass = g.KindClass[:cap(g.KindClass)]
-	return g
-}
-
 // P1202: what is handed in stays as it is, its spare room too.
 func TestHandedInStays(t *testing.T) {
-	g, was := roomy(), spread(roomy())
+	g, was := sample.Roomy(), sample.Spread(sample.Roomy())
 	tells(t, "roomy", g, only(4, 0, 1, 2, 3), []int{0, 1, 1, 0})
-	if now := spread(g); !reflect.DeepEqual(now, was) {
+	if now := sample.Spread(g); !reflect.DeepEqual(now, was) {
 		t.Errorf("what is handed in: %+v; was %+v", now, was)
 	}
-	for _, g := range notForm() {
-		was := g
+	for _, x := range sample.NotForm() {
+		g, was := x.Grammar, x.Grammar
 		was.Rules = slices.Clone(g.Rules)
 		tells(t, "no grammar", g, nil, nil)
 		if !reflect.DeepEqual(g, was) {
@@ -255,7 +177,7 @@ func TestHandedInStays(t *testing.T) {
 
 // P1202: what is told is new memory: what is done to it turns nothing that is told of it later.
 func TestAnswersAreNew(t *testing.T) {
-	g := gram(4, 2, "AB", "BbC", "Ba", "CC", "DA", "Da")
+	g := sample.Grammar(4, 2, "AB", "BbC", "Ba", "CC", "DA", "Da")
 	to, long := []bool{true, true, true, false}, []int{1, 1, -1, 1}
 	for range 3 {
 		tells(t, "anew", g, to, long)
@@ -273,7 +195,7 @@ func TestAnswersAreNew(t *testing.T) {
 
 // P1202: what is told hangs on the arguments alone: one grammar that is turned is gone through anew each time, and who asks beside turns nothing.
 func TestNothingIsKept(t *testing.T) {
-	g := gram(3, 2, "AaB", "Bbb", "CA")
+	g := sample.Grammar(3, 2, "AaB", "Bbb", "CA")
 	for range 3 {
 		tells(t, "as it was", g, only(3, 0, 1), []int{3, 2, 3})
 		g.Rules[1].Right[0] = 2
@@ -283,12 +205,12 @@ func TestNothingIsKept(t *testing.T) {
 		tells(t, "none", g, nil, nil)
 		g.Start = 0
 	}
-	next := chance(1202)
+	next := sample.Chance(1202)
 	var all []api.Grammar
 	var to [][]bool
 	var long [][]int
 	for range 20 {
-		g := next.some(7, 4, 14, 4)
+		g := next.Grammar(7, 4, 14, 4)
 		a, b := byWays(g)
 		all, to, long = append(all, g), append(to, a), append(long, b)
 	}

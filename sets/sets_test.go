@@ -6,35 +6,9 @@ import (
 	"testing"
 
 	"undergrowth/api"
-	"undergrowth/grammar"
+	"undergrowth/sample"
 	"undergrowth/sets"
 )
-
-// gram is a grammar of rules written as texts: the name, and what it comes to; capitals are names from A on, other letters kinds from a on.
-func gram(names, kinds int, rules ...string) api.Grammar {
-	g := api.Grammar{Names: names, Kinds: kinds}
-	for _, s := range rules {
-		l := symbols(s)
-		g.Rules = append(g.Rules, api.Rule{Left: l[0], Right: l[1:]})
-	}
-	return g
-}
-
-// symbols is a row of symbols, written as in gram.
-func symbols(s string) []int {
-	l := make([]int, len(s))
-	for i, c := range []byte(s) {
-		if l[i] = int(c) - 'A'; c >= 'a' {
-			l[i] = -1 - (int(c) - 'a')
-		}
-	}
-	return l
-}
-
-// sums is a list of sums: of the names list, sum, term and sign, and of the kinds + * ( ) x ; and one of no use.
-func sums() api.Grammar {
-	return gram(4, 7, "A", "AABf", "BBaC", "BC", "CCbC", "CDcBd", "Ce", "D", "Da")
-}
 
 // same tells whether two lists hold the same lists; nil is as an empty one.
 func same(a, b [][]int) bool { return slices.EqualFunc(a, b, slices.Equal[[]int]) }
@@ -61,53 +35,44 @@ func begins(t *testing.T, g api.Grammar, l []int, first []int, null bool) {
 	}
 }
 
-// upTo is the numbers from 0 to n - 1.
-func upTo(n int) []int {
-	l := make([]int, n)
-	for i := range l {
-		l[i] = i
-	}
-	return l
-}
-
 // P1101: grammars as they are.
 func TestGrammars(t *testing.T) {
 	tells(t, "example", api.Grammar{Names: 1}, []bool{false}, [][]int{nil}, [][]int{{0}})
-	tells(t, "sums", sums(), []bool{true, false, false, true},
+	tells(t, "sums", sample.Sums(), []bool{true, false, false, true},
 		[][]int{{0, 2, 4}, {0, 2, 4}, {0, 2, 4}, {0}},
 		[][]int{{0, 2, 4, 7}, {0, 3, 5}, {0, 1, 3, 5}, {2}})
-	tells(t, "brackets", gram(1, 2, "AaAbA", "A"), []bool{true}, [][]int{{0}}, [][]int{{1, 2}})
-	tells(t, "if else", gram(3, 4, "AaACB", "Ad", "B", "BbA", "Cc"), []bool{false, true, false},
+	tells(t, "brackets", sample.Grammar(1, 2, "AaAbA", "A"), []bool{true}, [][]int{{0}}, [][]int{{1, 2}})
+	tells(t, "if else", sample.Grammar(3, 4, "AaACB", "Ad", "B", "BbA", "Cc"), []bool{false, true, false},
 		[][]int{{0, 3}, {1}, {2}}, [][]int{{2, 4}, {2, 4}, {1, 2, 4}})
-	tells(t, "nothing alone", gram(2, 1, "ABB", "B"), []bool{true, true}, [][]int{nil, nil}, [][]int{{1}, {1}})
-	tells(t, "circles", gram(3, 2, "AB", "BC", "CA", "CaA", "BBb"), []bool{false, false, false},
+	tells(t, "nothing alone", sample.Grammar(2, 1, "ABB", "B"), []bool{true, true}, [][]int{nil, nil}, [][]int{{1}, {1}})
+	tells(t, "circles", sample.Grammar(3, 2, "AB", "BC", "CA", "CaA", "BBb"), []bool{false, false, false},
 		[][]int{{0}, {0}, {0}}, [][]int{{1, 2}, {1, 2}, {1, 2}})
-	tells(t, "only what is nothing stands ahead", gram(3, 3, "ABCa", "BCC", "C", "Cb", "CCc"), []bool{false, true, true},
+	tells(t, "only what is nothing stands ahead", sample.Grammar(3, 3, "ABCa", "BCC", "C", "Cb", "CCc"), []bool{false, true, true},
 		[][]int{{0, 1, 2}, {1, 2}, {1, 2}}, [][]int{{3}, {0, 1, 2}, {0, 1, 2}})
 }
 
 // P1101: names that come to no end stand in what is derived as others do; a name that has no rules stands in the way of what is behind it.
 func TestNoEnd(t *testing.T) {
-	tells(t, "no rules", gram(2, 2, "AaBb"), []bool{false, false}, [][]int{{0}, nil}, [][]int{{2}, {1}})
-	tells(t, "no rules ahead", gram(2, 2, "ABb"), []bool{false, false}, [][]int{nil, nil}, [][]int{{2}, {1}})
-	tells(t, "no end", gram(2, 2, "AaAB", "BAb"), []bool{false, false}, [][]int{{0}, {0}}, [][]int{{0, 1, 2}, {0, 1, 2}})
-	tells(t, "itself first", gram(1, 2, "AAa", "AAb"), []bool{false}, [][]int{nil}, [][]int{{0, 1, 2}})
-	tells(t, "itself alone", gram(1, 1, "AA"), []bool{false}, [][]int{nil}, [][]int{{1}})
+	tells(t, "no rules", sample.Grammar(2, 2, "AaBb"), []bool{false, false}, [][]int{{0}, nil}, [][]int{{2}, {1}})
+	tells(t, "no rules ahead", sample.Grammar(2, 2, "ABb"), []bool{false, false}, [][]int{nil, nil}, [][]int{{2}, {1}})
+	tells(t, "no end", sample.Grammar(2, 2, "AaAB", "BAb"), []bool{false, false}, [][]int{{0}, {0}}, [][]int{{0, 1, 2}, {0, 1, 2}})
+	tells(t, "itself first", sample.Grammar(1, 2, "AAa", "AAb"), []bool{false}, [][]int{nil}, [][]int{{0, 1, 2}})
+	tells(t, "itself alone", sample.Grammar(1, 1, "AA"), []bool{false}, [][]int{nil}, [][]int{{1}})
 }
 
 // P1101: a name can come up and have nothing that ever stands right behind it; what stands within it counts all the same.
 func TestNothingBehind(t *testing.T) {
-	tells(t, "dead ahead", gram(4, 2, "ABC", "BDb", "Da"), []bool{false, false, false, false},
+	tells(t, "dead ahead", sample.Grammar(4, 2, "ABC", "BDb", "Da"), []bool{false, false, false, false},
 		[][]int{{0}, {0}, nil, {0}}, [][]int{{2}, nil, {2}, {1}})
-	tells(t, "dead in a row", gram(5, 1, "ABE", "BCE", "CDE", "Da"), make([]bool, 5),
+	tells(t, "dead in a row", sample.Grammar(5, 1, "ABE", "BCE", "CDE", "Da"), make([]bool, 5),
 		[][]int{{0}, {0}, {0}, {0}, nil}, [][]int{{1}, nil, nil, nil, {1}})
-	tells(t, "dead, and at the end", gram(4, 2, "ABC", "BDb", "BD", "Da", "AB"), make([]bool, 4),
+	tells(t, "dead, and at the end", sample.Grammar(4, 2, "ABC", "BDb", "BD", "Da", "AB"), make([]bool, 4),
 		[][]int{{0}, {0}, nil, {0}}, [][]int{{2}, {2}, {2}, {1, 2}})
 }
 
 // P1101: Follow tells of what Start derives alone, Nullable and First of all names.
 func TestStart(t *testing.T) {
-	g := gram(3, 3, "AaBb", "BCc", "C", "CAa")
+	g := sample.Grammar(3, 3, "AaBb", "BCc", "C", "CAa")
 	first := [][]int{{0}, {0, 2}, {0}}
 	null := []bool{false, false, true}
 	for start, follow := range [][][]int{
@@ -118,7 +83,7 @@ func TestStart(t *testing.T) {
 		g.Start = start
 		tells(t, "start", g, null, first, follow)
 	}
-	g = gram(3, 3, "AaBb", "BBc", "CBa", "CAb", "CC")
+	g = sample.Grammar(3, 3, "AaBb", "BBc", "CBa", "CAb", "CC")
 	first = [][]int{{0}, nil, {0}}
 	for start, follow := range [][][]int{
 		{{3}, {1, 2}, nil},
@@ -144,19 +109,19 @@ func TestGreatest(t *testing.T) {
 	}
 	null := make([]bool, 40)
 	first, follow := make([][]int, 40), make([][]int, 40)
-	first[39] = upTo(40)
+	first[39] = sample.UpTo(40)
 	for i := range 13 {
 		null[3*i+2] = i%2 == 0
-		follow[3*i+3] = upTo(40)
+		follow[3*i+3] = sample.UpTo(40)
 	}
-	follow[0], follow[37], follow[38], follow[39] = []int{40}, upTo(40), upTo(40), upTo(41)
+	follow[0], follow[37], follow[38], follow[39] = []int{40}, sample.UpTo(40), sample.UpTo(40), sample.UpTo(41)
 	tells(t, "greatest", g, null, first, follow)
 	for kinds := range 41 {
 		g := api.Grammar{Names: 2, Kinds: kinds, Rules: []api.Rule{{Right: []int{0, 1}}}}
 		for k := range kinds {
 			g.Rules = append(g.Rules, api.Rule{Left: 1, Right: []int{-1 - k}})
 		}
-		tells(t, "kinds", g, []bool{false, false}, [][]int{nil, upTo(kinds)}, [][]int{upTo(kinds + 1), upTo(kinds + 1)})
+		tells(t, "kinds", g, []bool{false, false}, [][]int{nil, sample.UpTo(kinds)}, [][]int{sample.UpTo(kinds + 1), sample.UpTo(kinds + 1)})
 		for k := range kinds {
 			begins(t, g, []int{-1 - k}, []int{k}, false)
 		}
@@ -201,16 +166,16 @@ func TestFirstOf(t *testing.T) {
 		{"DBd", []int{0, 2, 4}, false},
 		{"bBd", []int{1}, false},
 	} {
-		begins(t, sums(), symbols(x.l), x.first, x.null)
+		begins(t, sample.Sums(), sample.Symbols(x.l), x.first, x.null)
 	}
 	begins(t, api.Grammar{Names: 1}, nil, nil, true)
 	begins(t, api.Grammar{Names: 1}, []int{0}, nil, false)
-	dead := gram(2, 1, "A", "Aa")
-	begins(t, dead, symbols("AAB"), []int{0}, false)
-	begins(t, dead, symbols("Ba"), nil, false)
+	dead := sample.Grammar(2, 1, "A", "Aa")
+	begins(t, dead, sample.Symbols("AAB"), []int{0}, false)
+	begins(t, dead, sample.Symbols("Ba"), nil, false)
 	for _, n := range []int{8, 9, 64, 65, 100000} {
-		begins(t, sums(), slices.Repeat(symbols("D"), n), []int{0}, true)
-		begins(t, sums(), append(slices.Repeat(symbols("D"), n), -7), []int{0, 6}, false)
+		begins(t, sample.Sums(), slices.Repeat(sample.Symbols("D"), n), []int{0}, true)
+		begins(t, sample.Sums(), append(slices.Repeat(sample.Symbols("D"), n), -7), []int{0, 6}, false)
 	}
 }
 
@@ -220,78 +185,32 @@ func TestNoSymbol(t *testing.T) {
 	for _, row := range []string{"", "D", "DDDD", "a", "aaaa", "B", "DDaBDD"} {
 		for _, s := range none {
 			for i := range len(row) + 1 {
-				begins(t, sums(), slices.Insert(symbols(row), i, s), nil, false)
+				begins(t, sample.Sums(), slices.Insert(sample.Symbols(row), i, s), nil, false)
 			}
 		}
 	}
-	begins(t, sums(), none, nil, false)
-	begins(t, sums(), append(slices.Repeat(symbols("D"), 100000), 4), nil, false)
+	begins(t, sample.Sums(), none, nil, false)
+	begins(t, sample.Sums(), append(slices.Repeat(sample.Symbols("D"), 100000), 4), nil, false)
 	begins(t, api.Grammar{Names: 1}, []int{-1}, nil, false)
 	begins(t, api.Grammar{Names: 40, Kinds: 40}, []int{-41}, nil, false)
 	begins(t, api.Grammar{Names: 40, Kinds: 40}, []int{40}, nil, false)
 }
 
-// notForm is grammars that are none, by all that grammar.Form looks at.
-func notForm() []api.Grammar {
-	var l []api.Grammar
-	for _, f := range []func(g *api.Grammar){
-		func(g *api.Grammar) { g.Names = 0 },
-		func(g *api.Grammar) { g.Names = -1 },
-		func(g *api.Grammar) { g.Names = math.MinInt },
-		func(g *api.Grammar) { g.Names = 41 },
-		func(g *api.Grammar) { g.Names = math.MaxInt },
-		func(g *api.Grammar) { g.Kinds = -1 },
-		func(g *api.Grammar) { g.Kinds = 41 },
-		func(g *api.Grammar) { g.Kinds = math.MaxInt },
-		func(g *api.Grammar) { g.Rules = append(g.Rules, make([]api.Rule, 60)...) },
-		func(g *api.Grammar) { g.Forbid = slices.Repeat([][3]int{{1, 1, 2}}, 201) },
-		func(g *api.Grammar) { g.Start = -1 },
-		func(g *api.Grammar) { g.Start = 4 },
-		func(g *api.Grammar) { g.RuleClass = make([]int, 10) },
-		func(g *api.Grammar) { g.RuleClass = []int{101} },
-		func(g *api.Grammar) { g.KindClass = make([]int, 8) },
-		func(g *api.Grammar) { g.KindClass = []int{-1} },
-		func(g *api.Grammar) { g.Rules[8].Left = 4 },
-		func(g *api.Grammar) { g.Rules[0].Left = -1 },
-		func(g *api.Grammar) { g.Rules[8].Right[0] = 4 },
-		func(g *api.Grammar) { g.Rules[8].Right[0] = -8 },
-		func(g *api.Grammar) { g.Rules[8].Right[0] = math.MinInt },
-		func(g *api.Grammar) { g.Rules[0].Right = make([]int, 9) },
-		func(g *api.Grammar) { g.Rules[0].Dyn = 1001 },
-		func(g *api.Grammar) { g.Forbid = [][3]int{{1, 1, 0}} },
-	} {
-		g := sums()
-		f(&g)
-		l = append(l, g)
-	}
-	return append(l, api.Grammar{}, api.Grammar{Kinds: 1})
-}
-
 // P1101: of what is no grammar nothing is told, and false.
 func TestNotForm(t *testing.T) {
-	for _, g := range notForm() {
-		if _, e := grammar.Form(g); e == api.OK {
-			t.Fatalf("a grammar: %+v", g)
-		}
-		tells(t, "no grammar", g, nil, nil, nil)
+	for _, x := range sample.NotForm() {
+		tells(t, "no grammar", x.Grammar, nil, nil, nil)
 		for _, l := range [][]int{nil, {}, {0}, {3}, {-1}, {4}, {-8}, {0, -1}} {
-			begins(t, g, l, nil, false)
+			begins(t, x.Grammar, l, nil, false)
 		}
 	}
 }
 
 // P1101: how the rules weigh, what is forbidden and which classes there are turns nothing.
 func TestOnlyRulesCount(t *testing.T) {
-	g := sums()
+	g := sample.Sums()
 	null, first, follow := sets.Nullable(g), sets.First(g), sets.Follow(g)
-	g.Forbid = [][3]int{{1, 1, 2}, {1, 1, 3}, {5, 0, 7}, {5, 0, 8}}
-	g.RuleClass, g.KindClass = upTo(9), upTo(7)
-	for i := range g.Rules {
-		g.Rules[i].Dyn = 1000 - 250*i
-	}
-	if at, e := grammar.Form(g); e != api.OK {
-		t.Fatal(at, e)
-	}
+	g = sample.Dressed()
 	tells(t, "weights, classes, what is forbidden", g, null, first, follow)
 	g.Rules = append(g.Rules, g.Rules...)
 	slices.Reverse(g.Rules)

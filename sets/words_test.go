@@ -7,6 +7,7 @@ import (
 	"testing"
 
 	"undergrowth/api"
+	"undergrowth/sample"
 	"undergrowth/sets"
 )
 
@@ -98,42 +99,10 @@ func byRows(g api.Grammar, most int) told {
 	return x
 }
 
-// allRows is all rows of at most so many symbols of a grammar.
-func allRows(names, kinds, most int) [][]int {
-	all, last := [][]int{nil}, [][]int{nil}
-	for range most {
-		var longer [][]int
-		for _, l := range last {
-			for s := -kinds; s < names; s++ {
-				longer = append(longer, append(slices.Clone(l), s))
-			}
-		}
-		all, last = append(all, longer...), longer
-	}
-	return all
-}
-
-// each calls do with every grammar of at most so many of the rules.
-func each(g api.Grammar, rules []api.Rule, most int, do func(g api.Grammar)) {
-	do(g)
-	if most == 0 {
-		return
-	}
-	for i, r := range rules {
-		with := g
-		with.Rules = append(slices.Clone(g.Rules), r)
-		each(with, rules[i+1:], most-1, do)
-	}
-}
-
 // P1101: all grammars of two names, a kind and up to three rules of up to two symbols, held against all that they derive.
 func TestAllSmallGrammars(t *testing.T) {
-	var rules []api.Rule
-	for _, l := range allRows(2, 1, 2) {
-		rules = append(rules, api.Rule{Left: 0, Right: l}, api.Rule{Left: 1, Right: l})
-	}
-	all, n := allRows(2, 1, 2), 0
-	each(api.Grammar{Names: 2, Kinds: 1}, rules, 3, func(g api.Grammar) {
+	all, n := sample.Rows(2, 1, 2), 0
+	sample.Small(func(g api.Grammar) {
 		for g.Start = range 2 {
 			x := byRows(g, 6)
 			tells(t, "by rows", g, x.null, x.first, x.follow)
@@ -150,30 +119,17 @@ func TestAllSmallGrammars(t *testing.T) {
 	})
 }
 
-// chance is a row of numbers that seem to have no rule.
-type chance uint64
-
-// below is the next one, from 0 to n - 1.
-func (c *chance) below(n int) int {
-	*c = *c*6364136223846793005 + 1442695040888963407
-	return int(uint64(*c)>>33) % n
-}
-
 // row is up to most symbols of g.
-func (c *chance) row(g api.Grammar, most int) []int {
-	l := make([]int, c.below(most+1))
-	for i := range l {
-		l[i] = c.below(g.Names+g.Kinds) - g.Kinds
-	}
-	return l
+func row(c *sample.Chance, g api.Grammar, most int) []int {
+	return c.Symbols(g, c.Below(most+1))
 }
 
 // some is a grammar, many of whose rules are short.
-func (c *chance) some(names, kinds, rules, right int) api.Grammar {
-	g := api.Grammar{Names: 1 + c.below(names), Kinds: c.below(kinds + 1)}
-	g.Start = c.below(g.Names)
-	for range c.below(rules + 1) {
-		g.Rules = append(g.Rules, api.Rule{Left: c.below(g.Names), Right: c.row(g, c.below(right+1))})
+func some(c *sample.Chance, names, kinds, rules, right int) api.Grammar {
+	g := api.Grammar{Names: 1 + c.Below(names), Kinds: c.Below(kinds + 1)}
+	g.Start = c.Below(g.Names)
+	for range c.Below(rules + 1) {
+		g.Rules = append(g.Rules, api.Rule{Left: c.Below(g.Names), Right: row(c, g, c.Below(right+1))})
 	}
 	return g
 }
@@ -258,10 +214,10 @@ func byPairs(g api.Grammar) told {
 
 // P1101: many greater grammars, held against what begins, ends and stands side by side in them.
 func TestManyGrammars(t *testing.T) {
-	next := chance(11)
+	next := sample.Chance(11)
 	nulls, kinds, empty := 0, 0, 0
 	for range 3000 {
-		g := next.some(8, 5, 14, 4)
+		g := some(&next, 8, 5, 14, 4)
 		x := byPairs(g)
 		tells(t, "by pairs", g, x.null, x.first, x.follow)
 		for name := range g.Names {
@@ -285,10 +241,10 @@ func TestManyGrammars(t *testing.T) {
 
 // P1101: a row begins as the right side of a rule would.
 func TestRowsAreAsRules(t *testing.T) {
-	next := chance(1101)
+	next := sample.Chance(1101)
 	for range 3000 {
-		g := next.some(6, 4, 12, 3)
-		l := next.row(g, 8)
+		g := some(&next, 6, 4, 12, 3)
+		l := row(&next, g, 8)
 		with := g
 		with.Names++
 		with.Rules = append(slices.Clone(g.Rules), api.Rule{Left: g.Names, Right: l})
@@ -299,49 +255,25 @@ func TestRowsAreAsRules(t *testing.T) {
 	}
 }
 
-// roomy is sums, each list with spare room.
-func roomy() api.Grammar {
-	g := sums()
-	for i, r := range g.Rules {
-		g.Rules[i].Right = append(slices.Clone(r.Right), 7, 8, 9)[:len(r.Right)]
-	}
-	g.Rules = append(g.Rules, api.Rule{Left: 7, Right: []int{5}}, api.Rule{Left: 8})[:9]
-	g.Forbid = [][3]int{{1, 1, 2}, {7, 7, 7}}[:1]
-	g.RuleClass, g.KindClass = []int{1, 2, 333}[:2], []int{3, 4, 555}[:2]
-	return g
-}
-
-// spread is g with the spare room of its lists.
-func spread(g api.Grammar) api.Grammar {
-	g.Rules = slices.Clone(g.Rules[:cap(g.Rules)])
-	for i, r := range g.Rules {
-		g.Rules[i].Right = r.Right[:cap(r.Right)]
-	}
-	g.Forbid = g.Forbid[:cap(g.Forbid)]
-	g.RuleClass = g.RuleClass[:cap(g.RuleClass)]
-	g.KindClass = g.KindClass[:cap(g.KindClass)]
-	return g
-}
-
 // P1102: what is handed in stays as it is, its spare room too.
 func TestHandedInStays(t *testing.T) {
-	want := sums()
+	want := sample.Sums()
 	first, follow := sets.First(want), sets.Follow(want)
-	g, was := roomy(), spread(roomy())
+	g, was := sample.Roomy(), sample.Spread(sample.Roomy())
 	tells(t, "roomy", g, sets.Nullable(want), first, follow)
 	for _, row := range []string{"", "DDDb", "AB", "DZ"} {
-		l := append(symbols(row), 50, 51, 52)
+		l := append(sample.Symbols(row), 50, 51, 52)
 		all := slices.Clone(l)
 		sets.FirstOf(g, l[:len(row)])
 		if !slices.Equal(l, all) {
 			t.Errorf("FirstOf turns the row: %v; was %v", l, all)
 		}
 	}
-	if now := spread(g); !reflect.DeepEqual(now, was) {
+	if now := sample.Spread(g); !reflect.DeepEqual(now, was) {
 		t.Errorf("what is handed in: %+v; was %+v", now, was)
 	}
-	for _, g := range notForm() {
-		was := g
+	for _, x := range sample.NotForm() {
+		g, was := x.Grammar, x.Grammar
 		was.Rules = slices.Clone(g.Rules)
 		tells(t, "no grammar", g, nil, nil, nil)
 		if !reflect.DeepEqual(g, was) {
@@ -350,27 +282,19 @@ func TestHandedInStays(t *testing.T) {
 	}
 }
 
-// spoil turns all of a list, its spare room too.
-func spoil(l []int) {
-	l = l[:cap(l)]
-	for i := range l {
-		l[i] = 99
-	}
-}
-
 // P1102: what is told is new memory, each list of its own: what is done to it turns no other one, and nothing told later.
 func TestAnswersAreNew(t *testing.T) {
-	g := sums()
+	g := sample.Sums()
 	x := told{sets.Nullable(g), sets.First(g), sets.Follow(g)}
 	want := told{slices.Clone(x.null), nil, nil}
 	for name := range g.Names {
 		want.first = append(want.first, slices.Clone(x.first[name]))
 		want.follow = append(want.follow, slices.Clone(x.follow[name]))
 	}
-	row, null := sets.FirstOf(g, symbols("A"))
+	row, null := sets.FirstOf(g, sample.Symbols("A"))
 	for name := range g.Names {
-		spoil(x.first[name])
-		spoil(x.follow[name])
+		sample.Spoil(x.first[name], 99)
+		sample.Spoil(x.follow[name], 99)
 		if name+1 < g.Names && (!same(x.first[name+1:], want.first[name+1:]) || !same(x.follow[name+1:], want.follow[name+1:])) {
 			t.Fatalf("the lists of %d hold another one's memory", name)
 		}
@@ -378,17 +302,17 @@ func TestAnswersAreNew(t *testing.T) {
 	if !slices.Equal(row, want.first[0]) || !null {
 		t.Errorf("FirstOf: %v, %v", row, null)
 	}
-	spoil(row)
+	sample.Spoil(row, 99)
 	for i := range x.null[:cap(x.null)] {
 		x.null[:cap(x.null)][i] = i%3 == 1
 	}
 	tells(t, "anew", g, want.null, want.first, want.follow)
-	begins(t, g, symbols("A"), want.first[0], true)
+	begins(t, g, sample.Symbols("A"), want.first[0], true)
 }
 
 // P1102: what is told hangs on the arguments alone: one grammar that is turned is gone through anew each time, and who asks beside turns nothing.
 func TestNothingIsKept(t *testing.T) {
-	g := gram(2, 2, "AaB", "BAb")
+	g := sample.Grammar(2, 2, "AaB", "BAb")
 	for range 3 {
 		tells(t, "as it was", g, make([]bool, 2), [][]int{{0}, {0}}, [][]int{{1, 2}, {1, 2}})
 		g.Rules[1].Right[0] = -2
@@ -398,11 +322,11 @@ func TestNothingIsKept(t *testing.T) {
 		tells(t, "none", g, nil, nil, nil)
 		g.Start = 0
 	}
-	next := chance(1102)
+	next := sample.Chance(1102)
 	var all []api.Grammar
 	var want []told
 	for range 20 {
-		g := next.some(8, 5, 14, 4)
+		g := some(&next, 8, 5, 14, 4)
 		all, want = append(all, g), append(want, byPairs(g))
 	}
 	var group sync.WaitGroup
