@@ -2,13 +2,13 @@ package items
 
 import "undergrowth/api"
 
-// goal is the number of a rule that stands in no grammar: it comes to Start
+// Goal is the number of a rule that stands in no grammar: it comes to Start
 // alone.
-const goal = -1
+const Goal = -1
 
-// right is what a rule of g, or the goal, comes to.
-func right(g api.Grammar, rule int) []int {
-	if rule == goal {
+// Right is what a rule of g, or the goal, comes to.
+func Right(g api.Grammar, rule int) []int {
+	if rule == Goal {
 		return []int{g.Start}
 	}
 	return g.Rules[rule].Right
@@ -16,14 +16,14 @@ func right(g api.Grammar, rule int) []int {
 
 // isItem tells whether it is an item of g.
 func isItem(g api.Grammar, it api.Item) bool {
-	return it.Rule >= goal && it.Rule < len(g.Rules) &&
-		it.At >= 0 && it.At <= len(right(g, it.Rule))
+	return it.Rule >= Goal && it.Rule < len(g.Rules) &&
+		it.At >= 0 && it.At <= len(Right(g, it.Rule))
 }
 
 // behind is the symbol behind the point of an item of g, if its point is not
 // at the end.
 func behind(g api.Grammar, it api.Item) (int, bool) {
-	l := right(g, it.Rule)
+	l := Right(g, it.Rule)
 	if it.At == len(l) {
 		return 0, false
 	}

@@ -19,7 +19,7 @@ type set [words]uint64
 
 // add puts an item in.
 func (s *set) add(it api.Item) {
-	bit := (it.Rule-goal)*places + it.At
+	bit := (it.Rule-Goal)*places + it.At
 	s[bit/64] |= 1 << (bit % 64)
 }
 
@@ -29,7 +29,7 @@ func (s set) list() []api.Item {
 	for i, w := range s {
 		for ; w != 0; w &= w - 1 {
 			bit := i*64 + bits.TrailingZeros64(w)
-			l = append(l, api.Item{Rule: bit/places + goal, At: bit % places})
+			l = append(l, api.Item{Rule: bit/places + Goal, At: bit % places})
 		}
 	}
 	return l

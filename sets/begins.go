@@ -5,12 +5,12 @@ import "undergrowth/api"
 // begins is how that begins which each name derives.
 type begins struct {
 	null  []bool
-	first []kinds
+	first []Kinds
 }
 
 // beginsOf goes through the rules of g until none of them adds anything.
 func beginsOf(g api.Grammar) begins {
-	b := begins{make([]bool, g.Names), make([]kinds, g.Names)}
+	b := begins{make([]bool, g.Names), make([]Kinds, g.Names)}
 	for more := true; more; {
 		more = false
 		for _, r := range g.Rules {
@@ -22,7 +22,7 @@ func beginsOf(g api.Grammar) begins {
 }
 
 // add puts in what one rule of a name tells, and answers whether it is new.
-func (b begins) add(name int, k kinds, null bool) bool {
+func (b begins) add(name int, k Kinds, null bool) bool {
 	k |= b.first[name]
 	null = null || b.null[name]
 	isNew := k != b.first[name] || null != b.null[name]
@@ -32,11 +32,11 @@ func (b begins) add(name int, k kinds, null bool) bool {
 
 // row tells how that begins which the symbols l derive, and whether they derive
 // nothing, too, as far as b knows.
-func (b begins) row(l []int) (kinds, bool) {
-	var k kinds
+func (b begins) row(l []int) (Kinds, bool) {
+	var k Kinds
 	for _, s := range l {
 		if s < 0 {
-			return k | only(-1-s), false
+			return k | Only(-1-s), false
 		}
 		k |= b.first[s]
 		if !b.null[s] {

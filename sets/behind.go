@@ -7,15 +7,15 @@ import "undergrowth/api"
 // ever comes right behind it.
 type behind struct {
 	reached []bool
-	follow  []kinds
+	follow  []Kinds
 }
 
 // behindOf goes through the rules of the names that come up until none of them
 // adds anything.
 func behindOf(g api.Grammar) behind {
-	b := behind{make([]bool, g.Names), make([]kinds, g.Names)}
+	b := behind{make([]bool, g.Names), make([]Kinds, g.Names)}
 	begin := beginsOf(g)
-	for more := b.add(g.Start, only(g.Kinds)); more; {
+	for more := b.add(g.Start, Only(g.Kinds)); more; {
 		more = false
 		for _, r := range g.Rules {
 			if b.reached[r.Left] {
@@ -45,7 +45,7 @@ func (b behind) addRule(begin begins, r api.Rule) bool {
 
 // add puts in that a name comes up, with k behind it, and answers whether that
 // is new.
-func (b behind) add(name int, k kinds) bool {
+func (b behind) add(name int, k Kinds) bool {
 	k |= b.follow[name]
 	isNew := k != b.follow[name] || !b.reached[name]
 	b.follow[name], b.reached[name] = k, true

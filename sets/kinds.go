@@ -2,15 +2,21 @@ package sets
 
 import "math/bits"
 
-// kinds is a set of kinds: bit k is the kind k. MaxKinds and the end have room
+// Kinds is a set of kinds: bit k is the kind k. MaxKinds and the end have room
 // in it.
-type kinds uint64
+type Kinds uint64
 
-// only is the set of k alone.
-func only(k int) kinds { return 1 << k }
+// Only is the set of the kinds l alone.
+func Only(l ...int) Kinds {
+	var k Kinds
+	for _, kind := range l {
+		k |= 1 << kind
+	}
+	return k
+}
 
-// list tells the kinds of k, rising.
-func (k kinds) list() []int {
+// List tells the kinds of k, rising.
+func (k Kinds) List() []int {
 	var l []int
 	for ; k != 0; k &= k - 1 {
 		l = append(l, bits.TrailingZeros64(uint64(k)))
@@ -19,10 +25,10 @@ func (k kinds) list() []int {
 }
 
 // lists tells the kinds of each of l.
-func lists(l []kinds) [][]int {
+func lists(l []Kinds) [][]int {
 	all := make([][]int, len(l))
 	for i, k := range l {
-		all[i] = k.list()
+		all[i] = k.List()
 	}
 	return all
 }
